@@ -10,7 +10,17 @@ import (
 	"weighted/semiring"
 )
 
-func TestRegex(t *testing.T) {
+// setting is what the text of an expression is read with, and this text.
+type setting struct {
+	ring  api.Ring
+	table []string
+	text  string
+}
+
+// settings returns texts of expressions with weights of all kinds of rings, and some texts that stand for none.
+func settings(t *testing.T) []setting {
+	t.Helper()
+	var out []setting
 	for _, model := range texts() {
 		a, table := parsed(t, model)
 		weights := []api.Weight{semiring.Zero(a.Ring), semiring.One(a.Ring)}
@@ -20,9 +30,16 @@ func TestRegex(t *testing.T) {
 		}
 		for _, w := range weights {
 			for _, text := range []string{"[%]1", "[%]a", "a", "[%]a + [%]1", "a ([%]a a)* [%]a*", "[%][%]a a 1", "(0 [%]1)*", "([%]1)*", "[%]", "a [x]", "a ab", " "} {
-				obeyRegex(t, a.Ring, table, strings.ReplaceAll(text, "%", semiring.Format(a.Ring, w)))
+				out = append(out, setting{a.Ring, table, strings.ReplaceAll(text, "%", semiring.Format(a.Ring, w))})
 			}
 		}
+	}
+	return out
+}
+
+func TestRegex(t *testing.T) {
+	for _, s := range settings(t) {
+		obeyRegex(t, s.ring, s.table, s.text)
 	}
 	obey(t, regex.Valid, nil, nil, nil)
 	obey(t, regex.Constant, nil, nil, nil)

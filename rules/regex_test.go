@@ -23,16 +23,21 @@ func settings(t *testing.T) []setting {
 	var out []setting
 	for _, model := range texts() {
 		a, table := parsed(t, model)
-		weights := []api.Weight{semiring.Zero(a.Ring), semiring.One(a.Ring)}
-		weights = append(append(weights, a.Initial...), a.Final...)
-		for _, x := range a.Arcs {
-			weights = append(weights, x.Weight)
-		}
-		for _, w := range weights {
+		for _, w := range weightsOf(a) {
 			for _, text := range []string{"[%]1", "[%]a", "a", "[%]a + [%]1", "a ([%]a a)* [%]a*", "[%][%]a a 1", "(0 [%]1)*", "([%]1)*", "[%]", "a [x]", "a ab", " "} {
 				out = append(out, setting{a.Ring, table, strings.ReplaceAll(text, "%", semiring.Format(a.Ring, w))})
 			}
 		}
+	}
+	return out
+}
+
+// weightsOf returns the weights Zero and One, and those of a model.
+func weightsOf(a api.Auto) []api.Weight {
+	out := []api.Weight{semiring.Zero(a.Ring), semiring.One(a.Ring)}
+	out = append(append(out, a.Initial...), a.Final...)
+	for _, x := range a.Arcs {
+		out = append(out, x.Weight)
 	}
 	return out
 }

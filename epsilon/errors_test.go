@@ -1,13 +1,13 @@
 package epsilon_test
 
 import (
-	"math"
 	"slices"
 	"strings"
 	"testing"
 
 	"weighted/api"
 	"weighted/epsilon"
+	"weighted/samples"
 )
 
 // checkNone checks that both functions answer ErrForm, and nothing else.
@@ -19,68 +19,15 @@ func checkNone(t *testing.T, what string, a api.Auto) {
 	mustFail(t, what, a, api.ErrForm)
 }
 
-func TestAutomataThatAreNotValid(t *testing.T) {
-	checkNone(t, "zero value", api.Auto{})
-	for what, change := range map[string]func(a *api.Auto){
-		"an unknown ring":               func(a *api.Auto) { a.Ring.Kind = 7 },
-		"another ring":                  func(a *api.Auto) { a.Ring = api.Ring{Kind: 1 + a.Ring.Kind%5} },
-		"parts too many":                func(a *api.Auto) { a.Ring.Parts = append(slices.Clone(a.Ring.Parts), 1, 1, 1, 1) },
-		"no symbols":                    func(a *api.Auto) { a.Symbols = 0 },
-		"no symbols, and no states":     func(a *api.Auto) { *a = api.Auto{Ring: a.Ring} },
-		"too many symbols":              func(a *api.Auto) { a.Symbols = api.MaxSymbols + 1 },
-		"states below 0":                func(a *api.Auto) { *a = api.Auto{Ring: a.Ring, Symbols: 1, States: math.MinInt} },
-		"a state without weights":       func(a *api.Auto) { a.States++ },
-		"weights without a state":       func(a *api.Auto) { a.States-- },
-		"one state too many":            func(a *api.Auto) { a.States, a.Initial, a.Final = 65, many(a.Initial, 65), many(a.Final, 65) },
-		"no Initial":                    func(a *api.Auto) { a.Initial = nil },
-		"no Final":                      func(a *api.Auto) { a.Final = nil },
-		"an empty label from no state":  func(a *api.Auto) { a.Arcs[0].From = 3 },
-		"an empty label to no state":    func(a *api.Auto) { a.Arcs[0].To = 3 },
-		"an empty label from below 0":   func(a *api.Auto) { a.Arcs[0].From = -1 },
-		"an empty label to below 0":     func(a *api.Auto) { a.Arcs[0].To = math.MinInt },
-		"a symbol to no state":          func(a *api.Auto) { a.Arcs[1].To = math.MaxInt },
-		"a label behind the last one":   func(a *api.Auto) { a.Arcs[1].Label = 3 },
-		"a label below 0":               func(a *api.Auto) { a.Arcs[0].Label = -1 },
-		"one arc too many":              func(a *api.Auto) { a.Arcs = many(a.Arcs, api.MaxArcs+1) },
-		"one empty label too many":      func(a *api.Auto) { a.Arcs = many(a.Arcs[:1], api.MaxArcs+1) },
-		"an empty label without states": func(a *api.Auto) { a.States, a.Initial, a.Final = 0, nil, nil },
-	} {
-		for _, s := range ringCases() {
-			a := model(t, s.fill("symbols a b;states 3;initial 0 w0;final 1 w1;arc 0 - 1 s0;arc 1 b 1 w3", 0))
-			mustRemove(t, a)
-			change(&a)
-			checkNone(t, s.line+": "+what, a)
-		}
-	}
-}
-
 // many returns so many elements, those of a list over and over.
 func many[T any](list []T, size int) []T {
 	return slices.Repeat(list, size)[:size]
 }
 
-func TestWeightsThatAreNotValid(t *testing.T) {
-	// They do not count as Zero, in no ring: the automaton is not valid.
-	half := api.Rat{Num: []uint32{2}, Den: []uint32{4}}
-	for _, wrong := range []api.Weight{{Q: half}, {Q: api.Rat{Neg: true}}, {Cost: -1}, {Cost: api.MaxCost + 1}, {Inf: true, Cost: 1}, {Set: 1, Cost: 1}, {Poly: []api.Monomial{{}}}, {Poly: []api.Monomial{{Coef: half}}}, {Parts: make([]api.Weight, 1)}, {Parts: make([]api.Weight, 4)}} {
-		for _, s := range ringCases() {
-			for what, place := range map[string]func(a api.Auto) *api.Weight{
-				"Initial":        func(a api.Auto) *api.Weight { return &a.Initial[1] },
-				"Final":          func(a api.Auto) *api.Weight { return &a.Final[1] },
-				"an empty label": func(a api.Auto) *api.Weight { return &a.Arcs[0].Weight },
-				"a symbol":       func(a api.Auto) *api.Weight { return &a.Arcs[1].Weight },
-			} {
-				a := model(t, s.fill("symbols a;states 2;arc 0 - 1 zero;arc 0 a 1 zero", 0))
-				weight := place(a)
-				for at := range weight.Parts {
-					right := weight.Parts[at]
-					weight.Parts[at] = wrong
-					checkNone(t, s.line+": a part of "+what, a)
-					weight.Parts[at] = right
-				}
-				*weight = wrong
-				checkNone(t, s.line+": "+what, a)
-			}
+func TestAutomataThatAreNotValid(t *testing.T) {
+	for _, s := range samples.Cases() {
+		for what, a := range s.Invalid(t) {
+			checkNone(t, s.Line+": "+what, a)
 		}
 	}
 }
@@ -134,7 +81,7 @@ func TestMatricesWithAndWithoutStar(t *testing.T) {
 		{"product viterbi sets polynomial", "1 - 1 1|ffffffffffffffff|a", true},
 		{"product viterbi sets polynomial", "1 - 1 1|ffffffffffffffff|a+1", false},
 	} {
-		a := model(t, "ring "+x.ring+";symbols a;states 3;arc "+strings.ReplaceAll(x.arcs, ";", ";arc "))
+		a := samples.Model(t, "ring "+x.ring+";symbols a;states 3;arc "+strings.ReplaceAll(x.arcs, ";", ";arc "))
 		if x.want {
 			mustRemove(t, a)
 		} else {
@@ -145,9 +92,9 @@ func TestMatricesWithAndWithoutStar(t *testing.T) {
 }
 
 // manyArcs returns an automaton in which states 1 and 2, to which an empty label leads from state 0, have so many arcs with symbols, all of them with other labels or ends.
-func manyArcs(t *testing.T, s ringCase, first, second int) api.Auto {
+func manyArcs(t *testing.T, s samples.Case, first, second int) api.Auto {
 	t.Helper()
-	a := model(t, s.fill("symbols "+names()+";states 64;arc 0 - 1 one;arc 0 - 2 one;arc 0 - 3 zero", 0))
+	a := samples.Model(t, s.Fill("symbols "+names()+";states 64;arc 0 - 1 one;arc 0 - 2 one;arc 0 - 3 zero", 0))
 	one := a.Arcs[0].Weight
 	for i := range first + second {
 		x := api.Arc{From: 1, Label: 1 + i/api.MaxStates, To: i % api.MaxStates, Weight: one}
@@ -169,31 +116,31 @@ func names() string {
 }
 
 func TestAsManyArcsAsThereMayBe(t *testing.T) {
-	for _, s := range ringCases() {
+	for _, s := range samples.Cases() {
 		// Each arc of states 1 and 2 is one of state 0 too.
 		if got := mustRemove(t, manyArcs(t, s, 700, 324)); len(got.Arcs) != api.MaxArcs {
-			t.Errorf("%s: %d arcs", s.line, len(got.Arcs))
+			t.Errorf("%s: %d arcs", s.Line, len(got.Arcs))
 		}
-		mustFail(t, s.line, manyArcs(t, s, 700, 325), api.ErrLimit)
-		mustFail(t, s.line, manyArcs(t, s, 0, 1025), api.ErrLimit)
-		mustFail(t, s.line, manyArcs(t, s, 1000, 1045), api.ErrLimit)
+		mustFail(t, s.Line, manyArcs(t, s, 700, 325), api.ErrLimit)
+		mustFail(t, s.Line, manyArcs(t, s, 0, 1025), api.ErrLimit)
+		mustFail(t, s.Line, manyArcs(t, s, 1000, 1045), api.ErrLimit)
 		// The last of the arcs is that of the last state.
 		a := manyArcs(t, s, 700, 324)
 		one := a.Arcs[0].Weight
 		a.Arcs = append(a.Arcs, api.Arc{From: 63, Label: 1, To: 63, Weight: one})
-		mustFail(t, s.line, a, api.ErrLimit)
+		mustFail(t, s.Line, a, api.ErrLimit)
 		// Without empty labels, the normal form has as many arcs as there may be.
 		b := manyArcs(t, s, 0, api.MaxArcs)
 		b.Arcs = b.Arcs[3:]
-		if got, want := mustRemove(t, b), mustNormal(t, b); len(got.Arcs) != api.MaxArcs || !sameFields(got, want) {
-			t.Errorf("%s: %d arcs", s.line, len(got.Arcs))
+		if got, want := mustRemove(t, b), samples.Normal(t, b); len(got.Arcs) != api.MaxArcs || !samples.Same(got, want) {
+			t.Errorf("%s: %d arcs", s.Line, len(got.Arcs))
 		}
 	}
 }
 
 func TestArcsThatAreZeroDoNotCount(t *testing.T) {
 	// The arcs of state 0 itself have, with those behind empty labels, the sum 0. With them there would be too many.
-	a := manyArcs(t, ringCases()[0], 900, 125)
+	a := manyArcs(t, samples.Cases()[0], 900, 125)
 	minus := a.Arcs[0].Weight
 	minus.Q.Neg = true
 	for i := range 1000 {
@@ -203,7 +150,7 @@ func TestArcsThatAreZeroDoNotCount(t *testing.T) {
 		t.Errorf("%d arcs", len(got.Arcs))
 	}
 	// Of arcs that the normal form makes one, also of more than are needed, one counts.
-	b := manyArcs(t, ringCases()[1], 700, 324)
+	b := manyArcs(t, samples.Cases()[1], 700, 324)
 	b.Arcs = append(b.Arcs, slices.Repeat(b.Arcs[700:701], 900)...)
 	if got := mustRemove(t, b); len(got.Arcs) != api.MaxArcs {
 		t.Errorf("%d arcs", len(got.Arcs))
@@ -211,22 +158,22 @@ func TestArcsThatAreZeroDoNotCount(t *testing.T) {
 }
 
 func TestErrorsInTheirOrder(t *testing.T) {
-	for _, s := range ringCases() {
-		for shift := range s.wide {
+	for _, s := range samples.Cases() {
+		for shift := range s.Wide {
 			a := manyArcs(t, s, 1000, 1000)
-			a.Arcs = append(a.Arcs, model(t, s.fill("symbols a;states 64;arc 63 - 63 x0", shift)).Arcs...)
-			mustFail(t, s.line, a, api.ErrStar)
+			a.Arcs = append(a.Arcs, samples.Model(t, s.Fill("symbols a;states 64;arc 63 - 63 x0", shift)).Arcs...)
+			mustFail(t, s.Line, a, api.ErrStar)
 			b := a
 			b.Arcs = slices.Clone(a.Arcs)
 			b.Arcs[5].Label = api.MaxSymbols + 1
-			checkNone(t, s.line, b)
+			checkNone(t, s.Line, b)
 			c := a
 			c.Final = append(slices.Clone(a.Final[1:]), api.Weight{Inf: true, Cost: 1})
-			checkNone(t, s.line, c)
+			checkNone(t, s.Line, c)
 		}
 		a := manyArcs(t, s, 1000, 1000)
-		mustFail(t, s.line, a, api.ErrLimit)
+		mustFail(t, s.Line, a, api.ErrLimit)
 		a.Arcs[1].To = -1
-		checkNone(t, s.line, a)
+		checkNone(t, s.Line, a)
 	}
 }

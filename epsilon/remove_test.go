@@ -10,14 +10,15 @@ import (
 
 	"weighted/api"
 	"weighted/automaton"
+	"weighted/samples"
 	"weighted/semiring"
 	"weighted/weigh"
 )
 
 func TestExample(t *testing.T) {
-	a := model(t, "ring rational;symbols a;states 1;initial 0 1;final 0 1;arc 0 - 0 1/2;arc 0 a 0 1")
-	if got, want := mustRemove(t, a), model(t, "ring rational;symbols a;states 1;initial 0 1;final 0 2;arc 0 a 0 2"); !sameFields(got, want) {
-		t.Errorf("Remove is %s", shown(got))
+	a := samples.Model(t, "ring rational;symbols a;states 1;initial 0 1;final 0 1;arc 0 - 0 1/2;arc 0 a 0 1")
+	if got, want := mustRemove(t, a), samples.Model(t, "ring rational;symbols a;states 1;initial 0 1;final 0 2;arc 0 a 0 2"); !samples.Same(got, want) {
+		t.Errorf("Remove is %s", samples.Shown(got))
 	}
 	for n := range 20 {
 		want := semiring.Zero(a.Ring)
@@ -71,20 +72,20 @@ func TestRemoveByHand(t *testing.T) {
 		{"product rational polynomial viterbi", "states 2;final 1 2|1|1/2;arc 0 - 0 1/2|c-1/2|1;arc 0 - 1 1/3|1/3|1/3;arc 1 b 0 3|a^5|1", "states 2;final 0 4/3|64/2187*c^5+32/729*c^4+16/243*c^3+8/81*c^2+4/27*c+2/9|1/6;final 1 2|1|1/2;arc 0 b 0 2|2/9*a^5|1/3;arc 1 b 0 3|a^5|1"},
 	} {
 		head := "ring " + x.ring + ";symbols a b;"
-		a, want := model(t, head+x.text), model(t, head+x.want)
-		if got := mustRemove(t, a); !sameFields(got, want) {
-			t.Errorf("%s: Remove of %s is %s", x.ring, x.text, shown(got))
+		a, want := samples.Model(t, head+x.text), samples.Model(t, head+x.want)
+		if got := mustRemove(t, a); !samples.Same(got, want) {
+			t.Errorf("%s: Remove of %s is %s", x.ring, x.text, samples.Shown(got))
 		}
 		check(t, a)
 	}
 }
 
 func TestRemoveWithoutStates(t *testing.T) {
-	for _, s := range ringCases() {
+	for _, s := range samples.Cases() {
 		for _, symbols := range []int{1, api.MaxSymbols} {
-			a := api.Auto{Ring: s.ring(t), Symbols: symbols}
-			if got := mustRemove(t, a); !sameFields(got, a) {
-				t.Errorf("%s: Remove without states is %s", s.line, shown(got))
+			a := api.Auto{Ring: s.Ring(t), Symbols: symbols}
+			if got := mustRemove(t, a); !samples.Same(got, a) {
+				t.Errorf("%s: Remove without states is %s", s.Line, samples.Shown(got))
 			}
 			check(t, a)
 		}
@@ -94,12 +95,12 @@ func TestRemoveWithoutStates(t *testing.T) {
 func TestRemoveWithoutEmptyLabels(t *testing.T) {
 	source := rand.New(rand.NewSource(2))
 	nowhere := func(_, _ int) bool { return false }
-	for _, s := range ringCases() {
+	for _, s := range samples.Cases() {
 		for range 10 {
 			// The arcs that the normal form leaves out are empty ones too.
 			a := random(t, source, s, 1+source.Intn(5), source.Intn(12), nowhere)
-			if got, want := mustRemove(t, a), mustNormal(t, a); !sameFields(got, want) {
-				t.Errorf("%s: Remove is %s, not the normal form %s", s.line, shown(got), shown(want))
+			if got, want := mustRemove(t, a), samples.Normal(t, a); !samples.Same(got, want) {
+				t.Errorf("%s: Remove is %s, not the normal form %s", s.Line, samples.Shown(got), samples.Shown(want))
 			}
 		}
 	}
@@ -107,12 +108,12 @@ func TestRemoveWithoutEmptyLabels(t *testing.T) {
 
 func TestRemoveOfEmptyLabelsAlone(t *testing.T) {
 	source := rand.New(rand.NewSource(3))
-	for _, s := range ringCases() {
+	for _, s := range samples.Cases() {
 		for range 10 {
 			a := random(t, source, s, 1+source.Intn(5), 0, anywhere)
 			a.Arcs = slices.DeleteFunc(a.Arcs, func(x api.Arc) bool { return x.Label > 0 })
 			if got := mustRemove(t, a); len(got.Arcs) > 0 {
-				t.Errorf("%s: Remove of %s has arcs: %s", s.line, shown(a), shown(got))
+				t.Errorf("%s: Remove of %s has arcs: %s", s.Line, samples.Shown(a), samples.Shown(got))
 			}
 			check(t, a)
 		}
@@ -120,7 +121,7 @@ func TestRemoveOfEmptyLabelsAlone(t *testing.T) {
 }
 
 func TestRemoveOfEachRing(t *testing.T) {
-	for _, s := range ringCases() {
+	for _, s := range samples.Cases() {
 		for shift := range 4 {
 			for _, template := range []string{
 				"states 1;initial 0 w0;final 0 w1;arc 0 - 0 s0;arc 0 a 0 w2",
@@ -130,7 +131,7 @@ func TestRemoveOfEachRing(t *testing.T) {
 				"states 3;initial 1 w0;final 2 w1;arc 2 - 0 one;arc 0 - 1 s0;arc 1 - 2 s1;arc 0 a 2 w2;arc 1 a 2 w3;arc 2 a 2 w0",
 				"states 4;final 3 w1;arc 0 - 1 w0;arc 0 - 2 w1;arc 1 - 3 w2;arc 2 - 3 w3;arc 3 a 0 one;arc 3 b 0 zero;gone 0 - 0",
 			} {
-				check(t, model(t, s.fill("symbols a b;"+template, shift)))
+				check(t, samples.Model(t, s.Fill("symbols a b;"+template, shift)))
 			}
 		}
 	}
@@ -138,15 +139,15 @@ func TestRemoveOfEachRing(t *testing.T) {
 
 func TestSumsThatAreZero(t *testing.T) {
 	// The arcs that an empty label of weight One leads to have, with those beside it, the sum Zero.
-	for _, s := range ringCases() {
+	for _, s := range samples.Cases() {
 		template := "symbols a b;states 4;final 1 w0;arc 0 - 1 one;arc 1 b 3 w1;arc 0 b 2 w2"
-		for i, text := range s.gone {
+		for i, text := range s.Gone {
 			template += fmt.Sprintf(";arc %d a 3 %s", i%2, text)
 		}
-		a := model(t, s.fill(template, 0))
+		a := samples.Model(t, s.Fill(template, 0))
 		got := mustRemove(t, a)
 		if isZero := semiring.Equal(weightOf(got, 0, 1, 3), semiring.Zero(a.Ring)); !isZero || len(got.Arcs) < 3 {
-			t.Errorf("%s: Remove of %s is %s", s.line, shown(a), shown(got))
+			t.Errorf("%s: Remove of %s is %s", s.Line, samples.Shown(a), samples.Shown(got))
 		}
 		check(t, a)
 	}
@@ -154,7 +155,7 @@ func TestSumsThatAreZero(t *testing.T) {
 
 func TestRemoveAtRandom(t *testing.T) {
 	source := rand.New(rand.NewSource(4))
-	for _, s := range ringCases() {
+	for _, s := range samples.Cases() {
 		for range 30 {
 			check(t, random(t, source, s, 1+source.Intn(5), source.Intn(12), anywhere))
 			check(t, random(t, source, s, 1+source.Intn(5), source.Intn(12), onward))
@@ -164,11 +165,11 @@ func TestRemoveAtRandom(t *testing.T) {
 
 func TestRemoveTwice(t *testing.T) {
 	source := rand.New(rand.NewSource(5))
-	for _, s := range ringCases() {
+	for _, s := range samples.Cases() {
 		for range 10 {
 			b := mustRemove(t, random(t, source, s, 1+source.Intn(5), source.Intn(12), anywhere))
-			if got := mustRemove(t, b); !sameFields(got, b) {
-				t.Errorf("%s: Remove of the Remove %s is %s", s.line, shown(b), shown(got))
+			if got := mustRemove(t, b); !samples.Same(got, b) {
+				t.Errorf("%s: Remove of the Remove %s is %s", s.Line, samples.Shown(b), samples.Shown(got))
 			}
 		}
 	}
@@ -179,16 +180,16 @@ func TestRemoveWithOtherNumbersOfStates(t *testing.T) {
 	renumber := func(a api.Auto, to []int) api.Auto {
 		b, e := automaton.Renumber(a, to)
 		if e != api.OK {
-			t.Fatalf("%s: Renumber: %v", shown(a), e)
+			t.Fatalf("%s: Renumber: %v", samples.Shown(a), e)
 		}
 		return b
 	}
-	for _, s := range ringCases() {
+	for _, s := range samples.Cases() {
 		for range 10 {
 			a := random(t, source, s, 1+source.Intn(5), source.Intn(12), anywhere)
 			to := source.Perm(a.States)
-			if got, want := mustRemove(t, renumber(a, to)), renumber(mustRemove(t, a), to); !sameFields(got, want) {
-				t.Errorf("%s, %v: Remove is %s, not %s", shown(a), to, shown(got), shown(want))
+			if got, want := mustRemove(t, renumber(a, to)), renumber(mustRemove(t, a), to); !samples.Same(got, want) {
+				t.Errorf("%s, %v: Remove is %s, not %s", samples.Shown(a), to, samples.Shown(got), samples.Shown(want))
 			}
 		}
 	}
@@ -196,12 +197,12 @@ func TestRemoveWithOtherNumbersOfStates(t *testing.T) {
 
 func TestRemoveOfTuplesPartByPart(t *testing.T) {
 	source := rand.New(rand.NewSource(7))
-	for _, s := range ringCases() {
-		for at, kind := range s.ring(t).Parts {
+	for _, s := range samples.Cases() {
+		for at, kind := range s.Ring(t).Parts {
 			for range 10 {
 				a := random(t, source, s, 1+source.Intn(5), source.Intn(12), anywhere)
-				if got, want := mustRemove(t, part(a, kind, at)), mustNormal(t, part(mustRemove(t, a), kind, at)); !sameFields(got, want) {
-					t.Errorf("%s: Remove of part %d is %s, not %s", shown(a), at, shown(got), shown(want))
+				if got, want := mustRemove(t, part(a, kind, at)), samples.Normal(t, part(mustRemove(t, a), kind, at)); !samples.Same(got, want) {
+					t.Errorf("%s: Remove of part %d is %s, not %s", samples.Shown(a), at, samples.Shown(got), samples.Shown(want))
 				}
 			}
 		}
@@ -224,10 +225,10 @@ func part(a api.Auto, kind, at int) api.Auto {
 
 func TestLongNumbers(t *testing.T) {
 	digits := strings.Repeat("7", api.MaxDigits)
-	a := model(t, "ring rational;symbols a;states 2;initial 0 "+digits+";final 1 1/"+digits+";arc 0 - 0 1/3;arc 0 - 1 "+digits+"/2;arc 1 a 1 2/"+digits)
-	want := model(t, "ring rational;symbols a;states 2;initial 0 "+digits+";final 0 3/4;final 1 1/"+digits+";arc 0 a 1 3/2;arc 1 a 1 2/"+digits)
-	if got := mustRemove(t, a); !sameFields(got, want) {
-		t.Errorf("Remove is %s", shown(got))
+	a := samples.Model(t, "ring rational;symbols a;states 2;initial 0 "+digits+";final 1 1/"+digits+";arc 0 - 0 1/3;arc 0 - 1 "+digits+"/2;arc 1 a 1 2/"+digits)
+	want := samples.Model(t, "ring rational;symbols a;states 2;initial 0 "+digits+";final 0 3/4;final 1 1/"+digits+";arc 0 a 1 3/2;arc 1 a 1 2/"+digits)
+	if got := mustRemove(t, a); !samples.Same(got, want) {
+		t.Errorf("Remove is %s", samples.Shown(got))
 	}
 }
 
@@ -237,7 +238,7 @@ func TestManyStates(t *testing.T) {
 	for i := range api.MaxStates {
 		text += fmt.Sprintf(";arc %d - %d 1/2", i, (i+1)%api.MaxStates)
 	}
-	b := mustRemove(t, model(t, text))
+	b := mustRemove(t, samples.Model(t, text))
 	if len(b.Arcs) != api.MaxStates {
 		t.Fatalf("%d arcs", len(b.Arcs))
 	}

@@ -8,9 +8,9 @@ import (
 
 	"weighted/api"
 	"weighted/rational"
+	"weighted/samples"
 	"weighted/semiring"
 	"weighted/weigh"
-	"weighted/words"
 )
 
 // mustWeigh returns the weight that the series of an automaton without empty labels gives a word.
@@ -18,24 +18,9 @@ func mustWeigh(t *testing.T, b api.Auto, word []int) api.Weight {
 	t.Helper()
 	w, e := weigh.Weight(b, word)
 	if e != api.OK {
-		t.Fatalf("%s: no weight of %v: %v", shown(b), word, e)
+		t.Fatalf("%s: no weight of %v: %v", samples.Shown(b), word, e)
 	}
 	return w
-}
-
-// allWords returns the words up to a length.
-func allWords(t *testing.T, symbols, most int) [][]int {
-	t.Helper()
-	var out [][]int
-	for word := []int(nil); len(word) <= most; {
-		out = append(out, word)
-		next, e := words.Next(word, symbols)
-		if e != api.OK {
-			t.Fatalf("no word behind %v: %v", word, e)
-		}
-		word = next
-	}
-	return out
 }
 
 // walker adds up the weights of paths, one by one.
@@ -77,14 +62,14 @@ func (w *walker) walk(at int, word []int, left int, weight api.Weight) {
 func TestSeriesIsTheSumOverPaths(t *testing.T) {
 	// Without a cycle of empty labels there are finitely many paths of each word.
 	source := rand.New(rand.NewSource(11))
-	for _, s := range ringCases() {
+	for _, s := range samples.Cases() {
 		for range 15 {
 			a := random(t, source, s, 1+source.Intn(4), source.Intn(8), onward)
-			b, n := mustRemove(t, a), mustNormal(t, a)
+			b, n := mustRemove(t, a), samples.Normal(t, a)
 			n.Arcs = slices.DeleteFunc(n.Arcs, func(x api.Arc) bool { return x.Label == 0 && x.From == x.To })
-			for _, word := range allWords(t, a.Symbols, 3) {
+			for _, word := range samples.Words(t, a.Symbols, 3) {
 				if got, want := mustWeigh(t, b, word), sumOfPaths(n, word, a.States); !semiring.Equal(got, want) {
-					t.Errorf("%s: the word %v has the weight %v, not %v", shown(a), word, got, want)
+					t.Errorf("%s: the word %v has the weight %v, not %v", samples.Shown(a), word, got, want)
 				}
 			}
 		}
@@ -94,17 +79,17 @@ func TestSeriesIsTheSumOverPaths(t *testing.T) {
 func TestSeriesOfCyclesThatAddNothing(t *testing.T) {
 	// Costs, chances and sets: a way that comes back to where it has been adds nothing, so that a finite sum is that of all paths.
 	source := rand.New(rand.NewSource(12))
-	for _, s := range ringCases() {
-		if kind := s.ring(t).Kind; kind != api.Tropical && kind != api.Viterbi && kind != api.Sets {
+	for _, s := range samples.Cases() {
+		if kind := s.Ring(t).Kind; kind != api.Tropical && kind != api.Viterbi && kind != api.Sets {
 			continue
 		}
 		for range 15 {
 			a := random(t, source, s, 1+source.Intn(3), source.Intn(6), anywhere)
-			b, n := mustRemove(t, a), mustNormal(t, a)
-			for _, word := range allWords(t, a.Symbols, 2) {
+			b, n := mustRemove(t, a), samples.Normal(t, a)
+			for _, word := range samples.Words(t, a.Symbols, 2) {
 				for most := a.States - 1; most <= a.States; most++ {
 					if got, want := mustWeigh(t, b, word), sumOfPaths(n, word, most); !semiring.Equal(got, want) {
-						t.Errorf("%s: the word %v has the weight %v, not %v", shown(a), word, got, want)
+						t.Errorf("%s: the word %v has the weight %v, not %v", samples.Shown(a), word, got, want)
 					}
 				}
 			}
@@ -115,11 +100,11 @@ func TestSeriesOfCyclesThatAddNothing(t *testing.T) {
 func TestSeriesSolvesTheEquationsOfStates(t *testing.T) {
 	// What follows a state is, for a word, what follows an empty label for the same word and the first symbol for its rest. Numbers that converge have no other solution.
 	source := rand.New(rand.NewSource(13))
-	for _, s := range ringCases() {
+	for _, s := range samples.Cases() {
 		for range 15 {
 			a := random(t, source, s, 1+source.Intn(5), source.Intn(12), anywhere)
-			b, n := mustRemove(t, a), mustNormal(t, a)
-			for _, word := range allWords(t, a.Symbols, 2) {
+			b, n := mustRemove(t, a), samples.Normal(t, a)
+			for _, word := range samples.Words(t, a.Symbols, 2) {
 				checkEquations(t, b, n, word)
 			}
 		}
@@ -132,7 +117,7 @@ func checkEquations(t *testing.T, b, n api.Auto, word []int) {
 	from := func(word []int) []api.Weight {
 		out, e := weigh.Backward(b, word)
 		if e != api.OK {
-			t.Fatalf("%s: Backward of %v: %v", shown(b), word, e)
+			t.Fatalf("%s: Backward of %v: %v", samples.Shown(b), word, e)
 		}
 		return out
 	}
@@ -151,7 +136,7 @@ func checkEquations(t *testing.T, b, n api.Auto, word []int) {
 		}
 	}
 	if !slices.EqualFunc(got, want, semiring.Equal) {
-		t.Errorf("%s, %v: the weights from the states are %v, not %v", shown(n), word, got, want)
+		t.Errorf("%s, %v: the weights from the states are %v, not %v", samples.Shown(n), word, got, want)
 	}
 }
 
@@ -162,12 +147,12 @@ func TestSeriesIsNearTheSumOverPaths(t *testing.T) {
 	if !ok {
 		t.Fatal("no number")
 	}
-	a := model(t, "ring rational;symbols a;states 2;initial 0 1;final 1 1/2;arc 0 - 0 1/9;arc 0 - 1 1/7;arc 1 - 0 1/8;arc 0 a 1 2;arc 1 a 1 1/3")
+	a := samples.Model(t, "ring rational;symbols a;states 2;initial 0 1;final 1 1/2;arc 0 - 0 1/9;arc 0 - 1 1/7;arc 1 - 0 1/8;arc 0 a 1 2;arc 1 a 1 1/3")
 	b := mustRemove(t, a)
-	for _, word := range allWords(t, 1, 1) {
+	for _, word := range samples.Words(t, 1, 1) {
 		whole, last := mustWeigh(t, b, word), semiring.Zero(r)
 		for most := range 9 {
-			sum := sumOfPaths(mustNormal(t, a), word, most)
+			sum := sumOfPaths(samples.Normal(t, a), word, most)
 			if rational.Compare(sum.Q, last.Q) < 0 || rational.Compare(sum.Q, whole.Q) >= 0 {
 				t.Errorf("%v: the weight %v is not above %v, which is not above %v", word, whole, sum, last)
 			}
@@ -182,7 +167,7 @@ func TestSeriesIsNearTheSumOverPaths(t *testing.T) {
 func TestSeriesOfAReversedAutomaton(t *testing.T) {
 	// Turned round, the empty labels stand in front of the symbols and no longer behind them.
 	source := rand.New(rand.NewSource(14))
-	for _, s := range ringCases() {
+	for _, s := range samples.Cases() {
 		for range 15 {
 			a := random(t, source, s, 1+source.Intn(5), source.Intn(12), anywhere)
 			back := a
@@ -192,11 +177,11 @@ func TestSeriesOfAReversedAutomaton(t *testing.T) {
 				back.Arcs[i].From, back.Arcs[i].To = x.To, x.From
 			}
 			b, c := mustRemove(t, a), mustRemove(t, back)
-			for _, word := range allWords(t, a.Symbols, 3) {
+			for _, word := range samples.Words(t, a.Symbols, 3) {
 				turned := slices.Clone(word)
 				slices.Reverse(turned)
 				if v, w := mustWeigh(t, b, word), mustWeigh(t, c, turned); !semiring.Equal(v, w) {
-					t.Errorf("%s: the word %v has the weight %v, and %v in reverse", shown(a), word, v, w)
+					t.Errorf("%s: the word %v has the weight %v, and %v in reverse", samples.Shown(a), word, v, w)
 				}
 			}
 		}
@@ -205,10 +190,10 @@ func TestSeriesOfAReversedAutomaton(t *testing.T) {
 
 func TestSeriesOfAChain(t *testing.T) {
 	// Of a b-part behind an a-part behind an empty label: the word a^m b^n has the product of its parts.
-	for _, s := range ringCases() {
-		r := s.ring(t)
+	for _, s := range samples.Cases() {
+		r := s.Ring(t)
 		for shift := range 3 {
-			a := model(t, s.fill("symbols a b;states 2;initial 0 w0;final 1 w1;arc 0 a 0 w2;arc 0 - 1 w3;arc 1 b 1 s0", shift))
+			a := samples.Model(t, s.Fill("symbols a b;states 2;initial 0 w0;final 1 w1;arc 0 a 0 w2;arc 0 - 1 w3;arc 1 b 1 s0", shift))
 			b := mustRemove(t, a)
 			for m := range 4 {
 				for n := range 4 {
@@ -218,12 +203,12 @@ func TestSeriesOfAChain(t *testing.T) {
 					}
 					word := append(slices.Repeat([]int{1}, m), slices.Repeat([]int{2}, n)...)
 					if got := mustWeigh(t, b, word); !semiring.Equal(got, want) {
-						t.Errorf("%s: the word %v has the weight %v, not %v", shown(a), word, got, want)
+						t.Errorf("%s: the word %v has the weight %v, not %v", samples.Shown(a), word, got, want)
 					}
 				}
 			}
 			if got := mustWeigh(t, b, []int{2, 1}); !semiring.Equal(got, semiring.Zero(r)) {
-				t.Errorf("%s: the word 2 1 has the weight %v", shown(a), got)
+				t.Errorf("%s: the word 2 1 has the weight %v", samples.Shown(a), got)
 			}
 		}
 	}
@@ -231,14 +216,14 @@ func TestSeriesOfAChain(t *testing.T) {
 
 func TestSeriesThatIsNone(t *testing.T) {
 	// Package weigh has no weights for empty labels, and Remove none for those that do not converge, also where no path leads.
-	for _, s := range ringCases() {
-		for shift := range s.wide {
+	for _, s := range samples.Cases() {
+		for shift := range s.Wide {
 			for at := range 3 {
-				a := model(t, s.fill(fmt.Sprintf("symbols a;states 3;initial 0 one;final 0 one;arc 0 a 0 one;arc %d - %d x0", at, at), shift))
+				a := samples.Model(t, s.Fill(fmt.Sprintf("symbols a;states 3;initial 0 one;final 0 one;arc 0 a 0 one;arc %d - %d x0", at, at), shift))
 				if _, e := weigh.Weight(a, nil); e != api.ErrEpsilon {
-					t.Errorf("%s: the weight is no error, but %v", shown(a), e)
+					t.Errorf("%s: the weight is no error, but %v", samples.Shown(a), e)
 				}
-				mustFail(t, s.line, a, api.ErrStar)
+				mustFail(t, s.Line, a, api.ErrStar)
 			}
 		}
 	}

@@ -4,84 +4,27 @@ import (
 	"fmt"
 	"math/rand"
 	"slices"
-	"strconv"
-	"strings"
 	"testing"
 
 	"weighted/api"
 	"weighted/automaton"
-	"weighted/modeltext"
-	"weighted/semiring"
+	"weighted/samples"
 	"weighted/trim"
 )
 
-// ringCase is the line of a ring with its weights Zero and One, with others, and with some that have the sum Zero.
-type ringCase struct {
-	line, zero, one string
-	others, gone    []string
-}
-
 // ringCases returns a ring of each kind, and products. Some of their weights are Zero in one part alone, and some have a product that is Zero.
-func ringCases() []ringCase {
-	return []ringCase{
-		{"ring rational", "0", "1", []string{"1", "1/2", "-1/2", "-7/3", "123456789012345678901234567890/7"}, []string{"1/2", "1/3", "-5/6"}},
-		{"ring tropical", "inf", "0", []string{"0", "3", "1099511627776", "1"}, []string{"inf", "inf"}},
-		{"ring viterbi", "0", "1", []string{"1", "1/2", "2/3"}, []string{"0", "0", "0"}},
-		{"ring sets", "0000000000000000", "ffffffffffffffff", []string{"000000000000000f", "00000000000000f0", "ffffffffffffffff"}, []string{"0000000000000000"}},
-		{"ring polynomial", "0", "1", []string{"a^5", "b^5", "1", "-a", "a*b+1/2"}, []string{"a+1", "-a", "-1"}},
-		{"ring product rational tropical", "0|inf", "1|0", []string{"0|0", "1|inf", "1|0", "-1/2|3"}, []string{"1/2|inf", "-1/2|inf"}},
-		{"ring product rational rational", "0|0", "1|1", []string{"0|3", "3|0", "1/2|-1/2"}, []string{"1|2", "-1|0", "0|-2"}},
-		{"ring product viterbi sets polynomial", "0|0000000000000000|0", "1|ffffffffffffffff|1",
-			[]string{"0|0000000000000000|a", "1/2|0000000000000000|0", "0|0000000000000f00|0", "1|ffffffffffffffff|1"}, []string{"0|0000000000000000|-b", "0|0000000000000000|b"}},
+func ringCases() []samples.Case {
+	return []samples.Case{
+		{Line: "ring rational", Zero: "0", One: "1", Others: []string{"1", "1/2", "-1/2", "-7/3", "123456789012345678901234567890/7"}, Gone: []string{"1/2", "1/3", "-5/6"}},
+		{Line: "ring tropical", Zero: "inf", One: "0", Others: []string{"0", "3", "1099511627776", "1"}, Gone: []string{"inf", "inf"}},
+		{Line: "ring viterbi", Zero: "0", One: "1", Others: []string{"1", "1/2", "2/3"}, Gone: []string{"0", "0", "0"}},
+		{Line: "ring sets", Zero: "0000000000000000", One: "ffffffffffffffff", Others: []string{"000000000000000f", "00000000000000f0", "ffffffffffffffff"}, Gone: []string{"0000000000000000"}},
+		{Line: "ring polynomial", Zero: "0", One: "1", Others: []string{"a^5", "b^5", "1", "-a", "a*b+1/2"}, Gone: []string{"a+1", "-a", "-1"}},
+		{Line: "ring product rational tropical", Zero: "0|inf", One: "1|0", Others: []string{"0|0", "1|inf", "1|0", "-1/2|3"}, Gone: []string{"1/2|inf", "-1/2|inf"}},
+		{Line: "ring product rational rational", Zero: "0|0", One: "1|1", Others: []string{"0|3", "3|0", "1/2|-1/2"}, Gone: []string{"1|2", "-1|0", "0|-2"}},
+		{Line: "ring product viterbi sets polynomial", Zero: "0|0000000000000000|0", One: "1|ffffffffffffffff|1",
+			Others: []string{"0|0000000000000000|a", "1/2|0000000000000000|0", "0|0000000000000f00|0", "1|ffffffffffffffff|1"}, Gone: []string{"0|0000000000000000|-b", "0|0000000000000000|b"}},
 	}
-}
-
-// ring returns the ring that the line of a ringCase names.
-func (s ringCase) ring(t *testing.T) api.Ring {
-	t.Helper()
-	return model(t, s.line+";symbols a;states 0").Ring
-}
-
-// weight reads a weight of the ring.
-func (s ringCase) weight(t *testing.T, text string) api.Weight {
-	t.Helper()
-	w, ok := semiring.Parse(s.ring(t), text)
-	if !ok {
-		t.Fatalf("%s: no weight: %s", s.line, text)
-	}
-	return w
-}
-
-// fill returns the text of a model from that of a template, in which zero and one stand for Zero and One and w0, w1, .. for other weights, those with the numbers shift, shift + 1, .. and so on in turn. A line "gone 0 a 1" stands for arcs that the normal form leaves out.
-func (s ringCase) fill(template string, shift int) string {
-	lines := []string{s.line}
-	for _, line := range strings.Split(template, ";") {
-		start := strings.LastIndex(line, " ") + 1
-		ends, isGone := strings.CutPrefix(line, "gone ")
-		number, isOther := strings.CutPrefix(line[start:], "w")
-		switch {
-		case isGone:
-			for _, text := range s.gone {
-				lines = append(lines, "arc "+ends+" "+text)
-			}
-		case isOther:
-			i, _ := strconv.Atoi(number)
-			lines = append(lines, line[:start]+s.others[(i+shift)%len(s.others)])
-		default:
-			lines = append(lines, line[:start]+strings.NewReplacer("zero", s.zero, "one", s.one).Replace(line[start:]))
-		}
-	}
-	return strings.Join(lines, ";")
-}
-
-// model reads a model that a test relies on. Its lines are separated by semicolons.
-func model(t *testing.T, text string) api.Auto {
-	t.Helper()
-	a, _, line, e := modeltext.Parse(strings.ReplaceAll(text, ";", "\n"))
-	if e != api.OK {
-		t.Fatalf("line %d: %v: %s", line, e, text)
-	}
-	return a
 }
 
 // marks reads which states are marked, each as 1 or 0.
@@ -91,15 +34,6 @@ func marks(text string) []bool {
 		out = append(out, c == '1')
 	}
 	return out
-}
-
-// sameFields compares all fields of two automata.
-func sameFields(a, b api.Auto) bool {
-	return a.Ring.Kind == b.Ring.Kind && slices.Equal(a.Ring.Parts, b.Ring.Parts) && a.Symbols == b.Symbols && a.States == b.States &&
-		slices.EqualFunc(a.Initial, b.Initial, semiring.Equal) && slices.EqualFunc(a.Final, b.Final, semiring.Equal) &&
-		slices.EqualFunc(a.Arcs, b.Arcs, func(x, y api.Arc) bool {
-			return x.From == y.From && x.Label == y.Label && x.To == y.To && semiring.Equal(x.Weight, y.Weight)
-		})
 }
 
 // mustUseful returns the useful states of an automaton that is valid.
@@ -131,7 +65,7 @@ func check(t *testing.T, what string, a api.Auto, useful []bool, want api.Auto) 
 		if got := mustUseful(t, a); !slices.Equal(got, useful) {
 			t.Errorf("%s: Useful is %v, not %v", what, got, useful)
 		}
-		if got := mustTrim(t, a); !sameFields(got, want) {
+		if got := mustTrim(t, a); !samples.Same(got, want) {
 			t.Errorf("%s: Trim is %v, not %v", what, got, want)
 		}
 		slices.Reverse(a.Arcs)
@@ -142,13 +76,13 @@ func check(t *testing.T, what string, a api.Auto, useful []bool, want api.Auto) 
 }
 
 // random returns an automaton with arcs of all labels, also the empty one, equal ones among them, some of the weight Zero and some with the sum Zero.
-func random(t *testing.T, source *rand.Rand, s ringCase, states, size int) api.Auto {
+func random(t *testing.T, source *rand.Rand, s samples.Case, states, size int) api.Auto {
 	t.Helper()
 	weight := func() string {
 		if source.Intn(2) > 0 {
 			return "zero"
 		}
-		return fmt.Sprintf("w%d", source.Intn(len(s.others)))
+		return fmt.Sprintf("w%d", source.Intn(len(s.Others)))
 	}
 	template := fmt.Sprintf("symbols a b;states %d", states)
 	for i := range states {
@@ -160,5 +94,5 @@ func random(t *testing.T, source *rand.Rand, s ringCase, states, size int) api.A
 	for range size {
 		template += fmt.Sprintf(";arc %s %s;gone %s", ends(), weight(), ends())
 	}
-	return model(t, s.fill(template, 0))
+	return samples.Model(t, s.Fill(template, 0))
 }

@@ -8,6 +8,7 @@ import (
 	"weighted/api"
 	"weighted/automaton"
 	"weighted/rational"
+	"weighted/samples"
 	"weighted/semiring"
 	"weighted/weigh"
 	"weighted/words"
@@ -20,10 +21,10 @@ func checkConsequences(t *testing.T, a api.Auto) {
 	if slices.Contains(mustUseful(t, b), false) {
 		t.Errorf("%v: not all states of the Trim %v are useful", a, b)
 	}
-	if got := mustTrim(t, b); !sameFields(got, b) {
+	if got := mustTrim(t, b); !samples.Same(got, b) {
 		t.Errorf("%v: Trim of the Trim %v is %v", a, b, got)
 	}
-	if got, e := automaton.Normal(b); e != api.OK || !sameFields(got, b) {
+	if got, e := automaton.Normal(b); e != api.OK || !samples.Same(got, b) {
 		t.Errorf("%v: the normal form of the Trim %v is %v, %v", a, b, got, e)
 	}
 	a, b = withoutEmptyLabels(a), withoutEmptyLabels(b)
@@ -70,13 +71,13 @@ func TestUsefulStatesAlone(t *testing.T) {
 	// The Trim of an automaton whose states are all useful is its normal form.
 	for _, s := range ringCases() {
 		text := "symbols a b;states 3;initial 0 w0;initial 2 w1;final 1 w2;final 2 w3;arc 2 b 1 w0;arc 0 a 1 w1;arc 1 - 2 w2;arc 2 - 2 w3;gone 2 a 0;arc 2 b 1 zero"
-		for shift := range s.others {
-			a := model(t, s.fill(text, shift))
+		for shift := range s.Others {
+			a := samples.Model(t, s.Fill(text, shift))
 			want, e := automaton.Normal(a)
 			if e != api.OK || len(want.Arcs) != 4 {
-				t.Fatalf("%s: the normal form is %v, %v", s.line, want, e)
+				t.Fatalf("%s: the normal form is %v, %v", s.Line, want, e)
 			}
-			check(t, s.line, a, marks("111"), want)
+			check(t, s.Line, a, marks("111"), want)
 		}
 	}
 }
@@ -84,25 +85,25 @@ func TestUsefulStatesAlone(t *testing.T) {
 func TestRingAndSymbolsStay(t *testing.T) {
 	for _, s := range ringCases() {
 		for _, symbols := range []int{1, 5, api.MaxSymbols} {
-			a := api.Auto{Ring: s.ring(t), Symbols: symbols, States: 2}
-			zero, one := s.weight(t, s.zero), s.weight(t, s.one)
+			a := api.Auto{Ring: s.Ring(t), Symbols: symbols, States: 2}
+			zero, one := s.Weight(t, s.Zero), s.Weight(t, s.One)
 			a.Initial, a.Final = []api.Weight{zero, one}, []api.Weight{one, zero}
-			check(t, s.line, a, marks("00"), api.Auto{Ring: a.Ring, Symbols: symbols})
+			check(t, s.Line, a, marks("00"), api.Auto{Ring: a.Ring, Symbols: symbols})
 			a.Arcs = []api.Arc{{From: 1, Label: symbols, To: 0, Weight: one}}
-			check(t, s.line, a, marks("11"), a)
+			check(t, s.Line, a, marks("11"), a)
 		}
 	}
 }
 
 // chain returns the automaton with as many states as there may be, in which arcs lead from each state to the next one in an order of the states.
-func chain(t *testing.T, s ringCase, order []int) api.Auto {
+func chain(t *testing.T, s samples.Case, order []int) api.Auto {
 	t.Helper()
-	a := api.Auto{Ring: s.ring(t), Symbols: 2, States: len(order)}
-	zero, one := s.weight(t, s.zero), s.weight(t, s.one)
+	a := api.Auto{Ring: s.Ring(t), Symbols: 2, States: len(order)}
+	zero, one := s.Weight(t, s.Zero), s.Weight(t, s.One)
 	a.Initial, a.Final = slices.Repeat([]api.Weight{zero}, a.States), slices.Repeat([]api.Weight{zero}, a.States)
 	a.Initial[order[0]], a.Final[order[a.States-1]] = one, one
 	for i := range a.States - 1 {
-		a.Arcs = append(a.Arcs, api.Arc{From: order[i], Label: i % 3, To: order[i+1], Weight: s.weight(t, s.others[i%len(s.others)])})
+		a.Arcs = append(a.Arcs, api.Arc{From: order[i], Label: i % 3, To: order[i+1], Weight: s.Weight(t, s.Others[i%len(s.Others)])})
 	}
 	return a
 }
@@ -136,13 +137,13 @@ func TestChainsOfAllStatesThatThereMayBe(t *testing.T) {
 }
 
 // checkExpected checks the useful states, of which there are so many, and the Trim against their definitions.
-func checkExpected(t *testing.T, s ringCase, a api.Auto, states int) {
+func checkExpected(t *testing.T, s samples.Case, a api.Auto, states int) {
 	t.Helper()
 	useful, want := expected(a)
 	if want.States != states {
-		t.Errorf("%s: %d useful states, not %d", s.line, want.States, states)
+		t.Errorf("%s: %d useful states, not %d", s.Line, want.States, states)
 	}
-	check(t, s.line, a, useful, want)
+	check(t, s.Line, a, useful, want)
 }
 
 func TestAllArcsThatThereMayBe(t *testing.T) {
@@ -151,7 +152,7 @@ func TestAllArcsThatThereMayBe(t *testing.T) {
 		a := chain(t, s, slices.Concat([]int{5}, make([]int, 62), []int{40}))
 		a.Arcs = nil
 		for i := range api.MaxArcs {
-			a.Arcs = append(a.Arcs, api.Arc{From: i / 64, Label: i % 3, To: i % 64, Weight: s.weight(t, s.others[i%len(s.others)])})
+			a.Arcs = append(a.Arcs, api.Arc{From: i / 64, Label: i % 3, To: i % 64, Weight: s.Weight(t, s.Others[i%len(s.Others)])})
 		}
 		checkExpected(t, s, a, 33)
 		a.Final[63] = a.Final[40]

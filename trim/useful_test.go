@@ -7,6 +7,7 @@ import (
 	"testing"
 
 	"weighted/api"
+	"weighted/samples"
 	"weighted/semiring"
 )
 
@@ -87,10 +88,10 @@ func vanishedShapes() []shape {
 }
 
 // checkShape checks a shape with the weights of a ring.
-func checkShape(t *testing.T, s ringCase, x shape) {
+func checkShape(t *testing.T, s samples.Case, x shape) {
 	t.Helper()
-	for shift := range s.others {
-		check(t, s.line+": "+x.name, model(t, s.fill(x.text, shift)), marks(x.useful), model(t, s.fill(x.trim, shift)))
+	for shift := range s.Others {
+		check(t, s.Line+": "+x.name, samples.Model(t, s.Fill(x.text, shift)), marks(x.useful), samples.Model(t, s.Fill(x.trim, shift)))
 	}
 }
 
@@ -103,21 +104,21 @@ func TestShapes(t *testing.T) {
 }
 
 func TestExample(t *testing.T) {
-	a := model(t, "ring tropical;symbols a b;states 3;initial 0 0;final 2 7;arc 0 a 1 3;arc 1 b 0 1;arc 2 a 2 0;arc 2 b 1 5;arc 1 a 2 inf")
+	a := samples.Model(t, "ring tropical;symbols a b;states 3;initial 0 0;final 2 7;arc 0 a 1 3;arc 1 b 0 1;arc 2 a 2 0;arc 2 b 1 5;arc 1 a 2 inf")
 	check(t, "example", a, marks("000"), api.Auto{Ring: a.Ring, Symbols: 2})
 }
 
 func TestInitialAndFinalWeights(t *testing.T) {
 	// Each weight other than Zero makes a state initial or final, also one that is Zero in one part alone, and that its product with the others is Zero does not matter.
 	for _, s := range ringCases() {
-		for _, v := range s.others {
-			for _, w := range s.others {
-				single := model(t, s.line+";symbols a;states 1;initial 0 "+v+";final 0 "+w)
-				check(t, s.line, single, marks("1"), single)
-				for _, x := range s.others {
-					triple := model(t, s.line+";symbols a;states 3;initial 0 "+v+";final 1 "+w+";initial 2 "+s.zero+";arc 0 a 1 "+x)
-					double := model(t, s.line+";symbols a;states 2;initial 0 "+v+";final 1 "+w+";arc 0 a 1 "+x)
-					check(t, s.line, triple, marks("110"), double)
+		for _, v := range s.Others {
+			for _, w := range s.Others {
+				single := samples.Model(t, s.Line+";symbols a;states 1;initial 0 "+v+";final 0 "+w)
+				check(t, s.Line, single, marks("1"), single)
+				for _, x := range s.Others {
+					triple := samples.Model(t, s.Line+";symbols a;states 3;initial 0 "+v+";final 1 "+w+";initial 2 "+s.Zero+";arc 0 a 1 "+x)
+					double := samples.Model(t, s.Line+";symbols a;states 2;initial 0 "+v+";final 1 "+w+";arc 0 a 1 "+x)
+					check(t, s.Line, triple, marks("110"), double)
 				}
 			}
 		}
@@ -134,7 +135,7 @@ func TestProductsAndSumsThatAreZero(t *testing.T) {
 		"ring rational;symbols a;states 3;initial 0 1;initial 1 -1;final 2 1;arc 0 a 2 1/2;arc 1 a 2 1/2",
 		"ring rational;symbols a b;states 3;initial 0 1;final 2 1;arc 0 a 1 1/2;arc 0 b 1 -1/2;arc 1 - 2 2;arc 1 a 2 -2",
 	} {
-		a := model(t, text)
+		a := samples.Model(t, text)
 		check(t, text, a, marks("111"), a)
 	}
 }
@@ -151,7 +152,7 @@ func TestPartsThatVanish(t *testing.T) {
 		{"arc 0 a 1 0|0", "11", "states 2;initial 0 1|inf;final 1 0|0;arc 0 a 1 0|0"},
 	} {
 		const head = "ring product rational tropical;symbols a;"
-		check(t, x.arcs, model(t, head+"states 2;initial 0 1|inf;final 1 0|0;"+x.arcs), marks(x.useful), model(t, head+x.trim))
+		check(t, x.arcs, samples.Model(t, head+"states 2;initial 0 1|inf;final 1 0|0;"+x.arcs), marks(x.useful), samples.Model(t, head+x.trim))
 	}
 }
 
@@ -233,7 +234,7 @@ func TestRandomAutomata(t *testing.T) {
 		for range 300 {
 			a := random(t, source, s, 1+source.Intn(6), source.Intn(20))
 			useful, want := expected(a)
-			check(t, s.line, a, useful, want)
+			check(t, s.Line, a, useful, want)
 			switch want.States {
 			case 0:
 				seen["none"]++
@@ -244,7 +245,7 @@ func TestRandomAutomata(t *testing.T) {
 			}
 		}
 		if min(seen["none"], seen["some"], seen["all"]) < 30 {
-			t.Errorf("%s: the automata are too much alike: %v", s.line, seen)
+			t.Errorf("%s: the automata are too much alike: %v", s.Line, seen)
 		}
 	}
 }

@@ -13,9 +13,9 @@ import (
 func failPair(t *testing.T, what string, a, b api.Auto, want api.Errno) {
 	t.Helper()
 	out, e := combine.Union(a, b)
-	fail(t, "Union, "+what, out, e, want)
+	samples.Fail(t, "Union, "+what, out, e, want)
 	out, e = combine.Concat(a, b)
-	fail(t, "Concat, "+what, out, e, want)
+	samples.Fail(t, "Concat, "+what, out, e, want)
 }
 
 // failAll checks that all functions answer ErrForm for an automaton, those of two also with it as the first, the second and both.
@@ -25,12 +25,12 @@ func failAll(t *testing.T, what string, wrong, right api.Auto) {
 	failPair(t, what+" as the second", right, wrong, api.ErrForm)
 	failPair(t, what+" as both", wrong, wrong, api.ErrForm)
 	out, e := combine.Star(wrong)
-	fail(t, "Star, "+what, out, e, api.ErrForm)
+	samples.Fail(t, "Star, "+what, out, e, api.ErrForm)
 	out, e = combine.Reverse(wrong)
-	fail(t, "Reverse, "+what, out, e, api.ErrForm)
+	samples.Fail(t, "Reverse, "+what, out, e, api.ErrForm)
 	for _, w := range []api.Weight{semiring.One(right.Ring), semiring.Zero(right.Ring), {}, {Cost: -1}} {
 		out, e = combine.Scale(wrong, w)
-		fail(t, "Scale, "+what, out, e, api.ErrForm)
+		samples.Fail(t, "Scale, "+what, out, e, api.ErrForm)
 	}
 }
 
@@ -44,10 +44,7 @@ func TestAutomataThatAreNotValid(t *testing.T) {
 }
 
 func TestDifferentRings(t *testing.T) {
-	lines := []string{"ring product tropical rational", "ring product rational tropical rational", "ring product rational tropical tropical", "ring product viterbi polynomial sets", "ring product sets viterbi polynomial", "ring product viterbi sets", "ring product rational polynomial", "ring product tropical tropical"}
-	for _, s := range samples.Cases() {
-		lines = append(lines, s.Line)
-	}
+	lines := samples.Lines()
 	for i, line := range lines {
 		for k, other := range lines {
 			a, b := samples.Model(t, line+";symbols a;states 1"), samples.Model(t, other+";symbols a;states 1")
@@ -75,8 +72,8 @@ func TestDifferentSymbols(t *testing.T) {
 			for n := range api.MaxSymbols {
 				a, b := api.Auto{Ring: r, Symbols: m + 1}, api.Auto{Ring: r, Symbols: n + 1}
 				if m == n {
-					same(t, "Union", union(t, a, b), a)
-					same(t, "Concat", concat(t, a, b), a)
+					samples.Expect(t, "Union", union(t, a, b), a)
+					samples.Expect(t, "Concat", concat(t, a, b), a)
 				} else {
 					failPair(t, s.Line, a, b, api.ErrLabels)
 				}
@@ -123,8 +120,8 @@ func TestErrorsInTheirOrder(t *testing.T) {
 			failPair(t, s.Line, x.b, x.a, x.want)
 		}
 		out, e := combine.Star(full)
-		fail(t, s.Line, out, e, api.ErrLimit)
+		samples.Fail(t, s.Line, out, e, api.ErrLimit)
 		out, e = combine.Star(broken)
-		fail(t, s.Line, out, e, api.ErrForm)
+		samples.Fail(t, s.Line, out, e, api.ErrForm)
 	}
 }

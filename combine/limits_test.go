@@ -54,9 +54,9 @@ func TestAsManyStatesAsThereMayBe(t *testing.T) {
 			}
 		}
 		out, e := combine.Star(without(samples.Sized(r, api.MaxStates, 0)))
-		fail(t, s.Line, out, e, api.ErrLimit)
+		samples.Fail(t, s.Line, out, e, api.ErrLimit)
 		out, e = combine.Star(samples.Sized(r, api.MaxStates, api.MaxArcs))
-		fail(t, s.Line, out, e, api.ErrLimit)
+		samples.Fail(t, s.Line, out, e, api.ErrLimit)
 	}
 }
 
@@ -68,9 +68,9 @@ func TestAsManyArcsOfUnion(t *testing.T) {
 			checkSize(t, s.Line, union(t, a, b), 64, api.MaxArcs)
 			checkSize(t, s.Line, union(t, b, a), 64, api.MaxArcs)
 			out, e := combine.Union(a, more)
-			fail(t, s.Line, out, e, api.ErrLimit)
+			samples.Fail(t, s.Line, out, e, api.ErrLimit)
 			out, e = combine.Union(more, a)
-			fail(t, s.Line, out, e, api.ErrLimit)
+			samples.Fail(t, s.Line, out, e, api.ErrLimit)
 			// Arcs that are Zero, or that are one, do not count.
 			checkSize(t, s.Line, union(t, a, padded(more)), 64, api.MaxArcs)
 			checkSize(t, s.Line, union(t, padded(more), a), 64, api.MaxArcs)
@@ -79,9 +79,9 @@ func TestAsManyArcsOfUnion(t *testing.T) {
 		all := samples.Sized(r, 32, api.MaxArcs)
 		checkSize(t, s.Line, union(t, all, samples.Sized(r, 32, 0)), 64, api.MaxArcs)
 		out, e := combine.Union(all, samples.Sized(r, 32, 1))
-		fail(t, s.Line, out, e, api.ErrLimit)
+		samples.Fail(t, s.Line, out, e, api.ErrLimit)
 		out, e = combine.Union(all, all)
-		fail(t, s.Line, out, e, api.ErrLimit)
+		samples.Fail(t, s.Line, out, e, api.ErrLimit)
 	}
 }
 
@@ -95,21 +95,21 @@ func TestAsManyArcsOfConcat(t *testing.T) {
 		checkSize(t, s.Line, concat(t, b, a), 64, api.MaxArcs)
 		more := samples.Sized(r, 32, 525)
 		out, e := combine.Concat(a, more)
-		fail(t, s.Line, out, e, api.ErrLimit)
+		samples.Fail(t, s.Line, out, e, api.ErrLimit)
 		out, e = combine.Concat(more, a)
-		fail(t, s.Line, out, e, api.ErrLimit)
+		samples.Fail(t, s.Line, out, e, api.ErrLimit)
 		checkSize(t, s.Line, concat(t, a, padded(more)), 64, api.MaxArcs)
 		checkSize(t, s.Line, concat(t, padded(more), a), 64, api.MaxArcs)
 		// With a Final that is Zero there are 32 fewer, and with an Initial too.
 		a.Final[31], more = zero, samples.Sized(r, 32, 524+32)
 		checkSize(t, s.Line, concat(t, a, more), 64, api.MaxArcs)
 		out, e = combine.Concat(a, samples.Sized(r, 32, 524+33))
-		fail(t, s.Line, out, e, api.ErrLimit)
+		samples.Fail(t, s.Line, out, e, api.ErrLimit)
 		more = samples.Sized(r, 32, 524+32+31)
 		more.Initial[0] = zero
 		checkSize(t, s.Line, concat(t, a, more), 64, api.MaxArcs)
 		out, e = combine.Concat(a, b)
-		checkSize(t, s.Line, must(t, out, e), 64, api.MaxArcs-32)
+		checkSize(t, s.Line, samples.Must(t, out, e), 64, api.MaxArcs-32)
 		// An Initial of the first, or a Final of the second, makes no difference.
 		a.Initial[3], more.Final[4] = zero, zero
 		checkSize(t, s.Line, concat(t, a, more), 64, api.MaxArcs)
@@ -124,7 +124,7 @@ func TestProductsThatAreZeroDoNotCount(t *testing.T) {
 		checkSize(t, x[0], concat(t, m, n), 64, api.MaxArcs)
 		m.Arcs = samples.Sized(a.Ring, 32, 1001).Arcs
 		out, e := combine.Concat(m, n)
-		fail(t, x[0], out, e, api.ErrLimit)
+		samples.Fail(t, x[0], out, e, api.ErrLimit)
 	}
 }
 
@@ -137,14 +137,14 @@ func TestAsManyArcsOfStar(t *testing.T) {
 			a, more := samples.Sized(r, states, api.MaxArcs-2*states), samples.Sized(r, states, api.MaxArcs-2*states+1)
 			checkSize(t, s.Line, star(t, a), states+1, api.MaxArcs)
 			out, e := combine.Star(more)
-			fail(t, s.Line, out, e, api.ErrLimit)
+			samples.Fail(t, s.Line, out, e, api.ErrLimit)
 			checkSize(t, s.Line, star(t, padded(more)), states+1, api.MaxArcs)
 			more.Initial[states-1] = zero
 			checkSize(t, s.Line, star(t, more), states+1, api.MaxArcs)
 			more = samples.Sized(r, states, api.MaxArcs-2*states+2)
 			more.Final[0] = zero
 			out, e = combine.Star(more)
-			fail(t, s.Line, out, e, api.ErrLimit)
+			samples.Fail(t, s.Line, out, e, api.ErrLimit)
 			more.Initial[0] = zero
 			checkSize(t, s.Line, star(t, more), states+1, api.MaxArcs)
 		}
@@ -153,7 +153,7 @@ func TestAsManyArcsOfStar(t *testing.T) {
 		all.Final = slices.Clone(all.Final)
 		all.Final[62] = semiring.One(r)
 		out, e := combine.Star(all)
-		fail(t, s.Line, out, e, api.ErrLimit)
+		samples.Fail(t, s.Line, out, e, api.ErrLimit)
 	}
 }
 
@@ -161,9 +161,9 @@ func TestAsManyArcsOfReverseAndScale(t *testing.T) {
 	for _, s := range samples.Cases() {
 		r := s.Ring(t)
 		all := samples.Sized(r, api.MaxStates, api.MaxArcs)
-		same(t, s.Line, reverse(t, all), reverseOf(all))
+		samples.Expect(t, s.Line, reverse(t, all), reverseOf(all))
 		for _, w := range s.Weights(t)[:3] {
-			same(t, s.Line, scale(t, all, w), scaleOf(all, w))
+			samples.Expect(t, s.Line, scale(t, all, w), scaleOf(all, w))
 		}
 		checkSize(t, s.Line, reverse(t, padded(all)), 64, api.MaxArcs-1)
 		checkSize(t, s.Line, scale(t, padded(all), semiring.One(r)), 64, api.MaxArcs-1)

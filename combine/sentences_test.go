@@ -118,23 +118,15 @@ func scaleOf(a api.Auto, w api.Weight) api.Auto {
 	return x.done()
 }
 
-// same checks that a result has the fields that are expected.
-func same(t *testing.T, what string, got, want api.Auto) {
-	t.Helper()
-	if !samples.Same(got, want) {
-		t.Errorf("%s is %s, not %s", what, samples.Shown(got), samples.Shown(want))
-	}
-}
-
 // check holds all functions against the sentences of the chapter.
 func check(t *testing.T, a, b api.Auto, weights []api.Weight) {
 	t.Helper()
-	same(t, "Union", union(t, a, b), unionOf(a, b))
-	same(t, "Concat", concat(t, a, b), concatOf(a, b))
-	same(t, "Star", star(t, a), starOf(a))
-	same(t, "Reverse", reverse(t, a), reverseOf(a))
+	samples.Expect(t, "Union", union(t, a, b), unionOf(a, b))
+	samples.Expect(t, "Concat", concat(t, a, b), concatOf(a, b))
+	samples.Expect(t, "Star", star(t, a), starOf(a))
+	samples.Expect(t, "Reverse", reverse(t, a), reverseOf(a))
 	for _, w := range weights {
-		same(t, "Scale", scale(t, a, w), scaleOf(a, w))
+		samples.Expect(t, "Scale", scale(t, a, w), scaleOf(a, w))
 	}
 }
 
@@ -143,14 +135,14 @@ func TestSentences(t *testing.T) {
 	for _, s := range samples.Cases() {
 		weights := s.Weights(t)
 		for range 25 {
-			a := random(t, source, s, source.Intn(6), 0)
-			b := random(t, source, s, 1+source.Intn(5), source.Intn(20))
+			a := s.Random(t, source.Intn, source.Intn(6), 0, true)
+			b := s.Random(t, source.Intn, 1+source.Intn(5), source.Intn(20), true)
 			for range 2 {
 				check(t, a, b, weights)
 				check(t, b, a, weights)
 				check(t, a, a, nil)
 				check(t, b, b, nil)
-				a, b = shuffled(source, a), shuffled(source, b)
+				a, b = samples.Shuffled(source.Intn, a), samples.Shuffled(source.Intn, b)
 			}
 			check(t, samples.Normal(t, a), b, nil)
 			check(t, b, samples.Normal(t, b), nil)
@@ -182,7 +174,7 @@ func TestByHand(t *testing.T) {
 		{"Scale", scale(t, b, third), "states 2;initial 1 1/6;final 0 1/3;arc 1 a 0 1;arc 0 - 1 4"},
 		{"Scale", scale(t, a, api.Weight{}), "states 2;final 0 7;final 1 5;arc 0 b 1 11;arc 1 - 0 13"},
 	} {
-		same(t, x.what, x.got, samples.Normal(t, samples.Model(t, "ring rational;symbols a b;"+x.want)))
+		samples.Expect(t, x.what, x.got, samples.Normal(t, samples.Model(t, "ring rational;symbols a b;"+x.want)))
 	}
 }
 
@@ -226,7 +218,7 @@ func TestNewArcsOfConcat(t *testing.T) {
 			want += ";arc 0 - 1 " + x.want
 		}
 		for _, pair := range [][2]string{{x.final, x.initial}, {x.initial, x.final}} {
-			same(t, x.ring, concat(t, samples.Model(t, head+"states 1;final 0 "+pair[0]), samples.Model(t, head+"states 1;initial 0 "+pair[1])), samples.Model(t, want))
+			samples.Expect(t, x.ring, concat(t, samples.Model(t, head+"states 1;final 0 "+pair[0]), samples.Model(t, head+"states 1;initial 0 "+pair[1])), samples.Model(t, want))
 		}
 	}
 }
@@ -237,7 +229,7 @@ func TestNewArcsOfStar(t *testing.T) {
 		for shift := range 4 {
 			a := samples.Model(t, s.Fill("symbols a;states 4;initial 0 w0;initial 1 w1;final 1 w2;final 2 w3;arc 0 - 1 s0;arc 1 - 1 s1;arc 1 - 0 s2;arc 3 a 3 w0", shift))
 			want := samples.Model(t, s.Fill("symbols a;states 5;initial 4 one;final 4 one;arc 0 - 1 s0;arc 1 - 0 s2;arc 1 - 1 s1;arc 1 - 4 w2;arc 2 - 4 w3;arc 3 a 3 w0;arc 4 - 0 w0;arc 4 - 1 w1", shift))
-			same(t, s.Line, star(t, a), want)
+			samples.Expect(t, s.Line, star(t, a), want)
 		}
 	}
 }
@@ -248,22 +240,22 @@ func TestWithoutStates(t *testing.T) {
 		r, one := s.Ring(t), semiring.One(s.Ring(t))
 		for _, symbols := range []int{1, 2, api.MaxSymbols} {
 			none := api.Auto{Ring: r, Symbols: symbols}
-			same(t, "Union without states", union(t, none, none), none)
-			same(t, "Concat without states", concat(t, none, none), none)
-			same(t, "Star without states", star(t, none), api.Auto{Ring: r, Symbols: symbols, States: 1, Initial: []api.Weight{one}, Final: []api.Weight{one}})
-			same(t, "Reverse without states", reverse(t, none), none)
-			same(t, "Scale without states", scale(t, none, one), none)
+			samples.Expect(t, "Union without states", union(t, none, none), none)
+			samples.Expect(t, "Concat without states", concat(t, none, none), none)
+			samples.Expect(t, "Star without states", star(t, none), api.Auto{Ring: r, Symbols: symbols, States: 1, Initial: []api.Weight{one}, Final: []api.Weight{one}})
+			samples.Expect(t, "Reverse without states", reverse(t, none), none)
+			samples.Expect(t, "Scale without states", scale(t, none, one), none)
 		}
 		for range 5 {
-			none, a := api.Auto{Ring: r, Symbols: 2}, random(t, source, s, 1+source.Intn(4), source.Intn(12))
+			none, a := api.Auto{Ring: r, Symbols: 2}, s.Random(t, source.Intn, 1+source.Intn(4), source.Intn(12), true)
 			n := samples.Normal(t, a)
-			same(t, "Union with nothing", union(t, a, none), n)
-			same(t, "Union of nothing", union(t, none, a), n)
+			samples.Expect(t, "Union with nothing", union(t, a, none), n)
+			samples.Expect(t, "Union of nothing", union(t, none, a), n)
 			front, end := n, n
 			front.Final = slices.Repeat([]api.Weight{semiring.Zero(r)}, a.States)
 			end.Initial = front.Final
-			same(t, "Concat with nothing", concat(t, a, none), front)
-			same(t, "Concat of nothing", concat(t, none, a), end)
+			samples.Expect(t, "Concat with nothing", concat(t, a, none), front)
+			samples.Expect(t, "Concat of nothing", concat(t, none, a), end)
 		}
 	}
 }
@@ -272,8 +264,8 @@ func TestReverseTwice(t *testing.T) {
 	source := rand.New(rand.NewSource(3))
 	for _, s := range samples.Cases() {
 		for range 20 {
-			a := random(t, source, s, 1+source.Intn(5), source.Intn(20))
-			same(t, "Reverse of the Reverse", reverse(t, reverse(t, a)), samples.Normal(t, a))
+			a := s.Random(t, source.Intn, 1+source.Intn(5), source.Intn(20), true)
+			samples.Expect(t, "Reverse of the Reverse", reverse(t, reverse(t, a)), samples.Normal(t, a))
 		}
 	}
 }
@@ -283,13 +275,13 @@ func TestScaleWithOneAndZero(t *testing.T) {
 	for _, s := range samples.Cases() {
 		r := s.Ring(t)
 		for range 10 {
-			a := random(t, source, s, 1+source.Intn(5), source.Intn(20))
-			same(t, "Scale with One", scale(t, a, semiring.One(r)), samples.Normal(t, a))
+			a := s.Random(t, source.Intn, 1+source.Intn(5), source.Intn(20), true)
+			samples.Expect(t, "Scale with One", scale(t, a, semiring.One(r)), samples.Normal(t, a))
 			want := samples.Normal(t, a)
 			want.Initial = slices.Repeat([]api.Weight{semiring.Zero(r)}, a.States)
-			same(t, "Scale with Zero", scale(t, a, semiring.Zero(r)), want)
+			samples.Expect(t, "Scale with Zero", scale(t, a, semiring.Zero(r)), want)
 			for _, w := range s.Wrong(t) {
-				same(t, "Scale without a weight", scale(t, a, w), want)
+				samples.Expect(t, "Scale without a weight", scale(t, a, w), want)
 			}
 		}
 	}

@@ -85,7 +85,7 @@ func TestSeriesOfSumsAndProducts(t *testing.T) {
 	for _, s := range samples.Cases() {
 		r := s.Ring(t)
 		for range 8 {
-			a, b := random(t, source, s, 1+source.Intn(4), source.Intn(10)), random(t, source, s, 1+source.Intn(4), source.Intn(10))
+			a, b := s.Random(t, source.Intn, 1+source.Intn(4), source.Intn(10), true), s.Random(t, source.Intn, 1+source.Intn(4), source.Intn(10), true)
 			first, second := seriesOf(t, a), seriesOf(t, b)
 			sum, chain, twice, square := seriesOf(t, union(t, a, b)), seriesOf(t, concat(t, a, b)), seriesOf(t, union(t, a, a)), seriesOf(t, concat(t, b, b))
 			for _, word := range samples.Words(t, 2, 3) {
@@ -104,7 +104,7 @@ func TestSeriesOfReverseAndScale(t *testing.T) {
 	for _, s := range samples.Cases() {
 		r := s.Ring(t)
 		for i, w := range append(s.Weights(t), api.Weight{Cost: -1}, api.Weight{Parts: make([]api.Weight, 4)}) {
-			a := random(t, source, s, 1+source.Intn(4), source.Intn(10))
+			a := s.Random(t, source.Intn, 1+source.Intn(4), source.Intn(10), true)
 			first, back, more := seriesOf(t, a), seriesOf(t, reverse(t, a)), seriesOf(t, scale(t, a, w))
 			for _, word := range samples.Words(t, 2, 3) {
 				turned := slices.Clone(word)
@@ -136,7 +136,7 @@ func TestSeriesOfStar(t *testing.T) {
 	for _, s := range samples.Cases() {
 		found := 0
 		for range 25 {
-			a := random(t, source, s, 1+source.Intn(3), source.Intn(9))
+			a := s.Random(t, source.Intn, 1+source.Intn(3), source.Intn(9), true)
 			// Some have numbers that are so small that the star exists.
 			for i := range a.States {
 				a.Initial[i] = semiring.Times(a.Ring, a.Initial[i], s.Weights(t)[2+source.Intn(3)])
@@ -177,7 +177,7 @@ func TestStarIsTheSumOverAllWays(t *testing.T) {
 		kind := s.Ring(t).Kind
 		idempotent := kind == api.Tropical || kind == api.Viterbi || kind == api.Sets
 		for range 6 {
-			a := random(t, source, s, 2, source.Intn(8))
+			a := s.Random(t, source.Intn, 2, source.Intn(8), true)
 			if !idempotent {
 				// Words lead from state 0 to state 1, with one symbol at least.
 				a.Initial[1], a.Final[0] = semiring.Zero(a.Ring), semiring.Zero(a.Ring)
@@ -241,7 +241,7 @@ func TestStarHasASeriesExactlyIf(t *testing.T) {
 		kind := s.Ring(t).Kind
 		counts := map[bool]int{}
 		for range 100 {
-			a := random(t, source, s, 1+source.Intn(4), source.Intn(8))
+			a := s.Random(t, source.Intn, 1+source.Intn(4), source.Intn(8), true)
 			a.Arcs = slices.DeleteFunc(a.Arcs, func(x api.Arc) bool { return x.Label == 0 })
 			var sum api.Rat
 			for i := range a.States {
@@ -350,18 +350,18 @@ func TestUnionAndConcatAreAssociative(t *testing.T) {
 	source := rand.New(rand.NewSource(16))
 	for _, s := range samples.Cases() {
 		for range 8 {
-			a, b, c := random(t, source, s, 1+source.Intn(3), source.Intn(8)), random(t, source, s, 1+source.Intn(3), source.Intn(8)), random(t, source, s, 1+source.Intn(3), source.Intn(8))
-			same(t, "Union of three", union(t, union(t, a, b), c), union(t, a, union(t, b, c)))
-			same(t, "Concat of three", concat(t, concat(t, a, b), c), concat(t, a, concat(t, b, c)))
+			a, b, c := s.Random(t, source.Intn, 1+source.Intn(3), source.Intn(8), true), s.Random(t, source.Intn, 1+source.Intn(3), source.Intn(8), true), s.Random(t, source.Intn, 1+source.Intn(3), source.Intn(8), true)
+			samples.Expect(t, "Union of three", union(t, union(t, a, b), c), union(t, a, union(t, b, c)))
+			samples.Expect(t, "Concat of three", concat(t, concat(t, a, b), c), concat(t, a, concat(t, b, c)))
 			// Reverse exchanges the two of a Concat, which then have other numbers.
 			var to []int
 			for i := range a.States + b.States {
 				to = append(to, (i+b.States)%(a.States+b.States))
 			}
 			turned, e := automaton.Renumber(reverse(t, concat(t, a, b)), to)
-			same(t, "Reverse of a Concat", must(t, turned, e), concat(t, reverse(t, b), reverse(t, a)))
-			same(t, "Reverse of a Union", reverse(t, union(t, a, b)), union(t, reverse(t, a), reverse(t, b)))
-			same(t, "Reverse of a Star", reverse(t, star(t, a)), star(t, reverse(t, a)))
+			samples.Expect(t, "Reverse of a Concat", samples.Must(t, turned, e), concat(t, reverse(t, b), reverse(t, a)))
+			samples.Expect(t, "Reverse of a Union", reverse(t, union(t, a, b)), union(t, reverse(t, a), reverse(t, b)))
+			samples.Expect(t, "Reverse of a Star", reverse(t, star(t, a)), star(t, reverse(t, a)))
 		}
 	}
 }
@@ -370,9 +370,9 @@ func TestScaleOfTheOthers(t *testing.T) {
 	source := rand.New(rand.NewSource(17))
 	for _, s := range samples.Cases() {
 		for _, w := range s.Weights(t) {
-			a, b := random(t, source, s, 1+source.Intn(3), source.Intn(8)), random(t, source, s, 1+source.Intn(3), source.Intn(8))
-			same(t, "Scale of a Union", scale(t, union(t, a, b), w), union(t, scale(t, a, w), scale(t, b, w)))
-			same(t, "Scale of a Concat", scale(t, concat(t, a, b), w), concat(t, scale(t, a, w), b))
+			a, b := s.Random(t, source.Intn, 1+source.Intn(3), source.Intn(8), true), s.Random(t, source.Intn, 1+source.Intn(3), source.Intn(8), true)
+			samples.Expect(t, "Scale of a Union", scale(t, union(t, a, b), w), union(t, scale(t, a, w), scale(t, b, w)))
+			samples.Expect(t, "Scale of a Concat", scale(t, concat(t, a, b), w), concat(t, scale(t, a, w), b))
 		}
 	}
 }

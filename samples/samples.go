@@ -39,6 +39,19 @@ func Cases() []Case {
 	}
 }
 
+// Lines returns lines of rings no two of which are the same: those of all cases, and of products that are like theirs.
+func Lines() []string {
+	lines := []string{
+		"ring product tropical rational", "ring product rational tropical rational", "ring product rational tropical tropical",
+		"ring product viterbi polynomial sets", "ring product sets viterbi polynomial", "ring product viterbi sets",
+		"ring product rational polynomial", "ring product tropical tropical",
+	}
+	for _, c := range Cases() {
+		lines = append(lines, c.Line)
+	}
+	return lines
+}
+
 // Fill returns the text of a model from that of a template, in which zero and one stand for Zero and One, s0, s1, .. for small weights, x0, x1, .. for wide and w0, w1, .. for other ones, those with the numbers shift, shift + 1, .. and so on in turn. A line "gone 0 a 1" stands for arcs that the normal form leaves out.
 func (c Case) Fill(template string, shift int) string {
 	lines := []string{c.Line}

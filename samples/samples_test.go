@@ -2,6 +2,7 @@ package samples_test
 
 import (
 	"fmt"
+	"math/rand"
 	"slices"
 	"strings"
 	"testing"
@@ -33,6 +34,18 @@ func TestCases(t *testing.T) {
 	}
 	if len(kinds) != 6 {
 		t.Errorf("kinds %v", kinds)
+	}
+}
+
+func TestLines(t *testing.T) {
+	lines := samples.Lines()
+	for i, line := range lines {
+		for k, other := range lines {
+			r, s := samples.Case{Line: line}.Ring(t), samples.Case{Line: other}.Ring(t)
+			if semiring.Same(r, s) != (i == k) {
+				t.Errorf("%s and %s", line, other)
+			}
+		}
 	}
 }
 
@@ -103,6 +116,50 @@ func TestWords(t *testing.T) {
 	}
 }
 
+func TestResults(t *testing.T) {
+	a := samples.Sized(api.Ring{Kind: api.Sets}, 2, 1)
+	samples.Expect(t, "the result", samples.Must(t, a, api.OK), a)
+	samples.Fail(t, "the error", api.Auto{}, api.ErrForm, api.ErrForm)
+}
+
+func TestRandom(t *testing.T) {
+	source := rand.New(rand.NewSource(1))
+	for _, c := range samples.Cases() {
+		seen := map[string]bool{}
+		for range 50 {
+			a := c.Random(t, source.Intn, 3, 20, true)
+			n := samples.Normal(t, c.Random(t, source.Intn, 3, 20, false))
+			seen[samples.Shown(a)] = true
+			empty := slices.ContainsFunc(samples.Normal(t, a).Arcs, func(x api.Arc) bool { return x.Label == 0 })
+			seen["empty labels "+fmt.Sprint(empty)] = true
+			if slices.ContainsFunc(n.Arcs, func(x api.Arc) bool { return x.Label == 0 }) || len(n.Arcs) < 5 {
+				t.Errorf("%s: %s", c.Line, samples.Shown(n))
+			}
+		}
+		if len(seen) != 52 {
+			t.Errorf("%s: %d automata", c.Line, len(seen))
+		}
+		if a := c.Random(t, source.Intn, 0, 0, true); a.States != 0 {
+			t.Errorf("%s: %s", c.Line, samples.Shown(a))
+		}
+	}
+}
+
+func TestShuffled(t *testing.T) {
+	source := rand.New(rand.NewSource(2))
+	a := samples.Sized(api.Ring{Kind: api.Rational}, 2, 7)
+	before := slices.Clone(a.Arcs)
+	seen := map[string]bool{}
+	for range 20 {
+		b := samples.Shuffled(source.Intn, a)
+		samples.Expect(t, "the normal form", samples.Normal(t, b), samples.Normal(t, a))
+		seen[samples.Shown(b)] = true
+	}
+	if len(seen) < 15 || fmt.Sprint(before) != fmt.Sprint(a.Arcs) {
+		t.Errorf("%d orders, %v, %v", len(seen), before, a.Arcs)
+	}
+}
+
 // failed stands for a test that has to fail.
 type failed struct{ message string }
 
@@ -117,6 +174,18 @@ func TestTextsThatAreWrong(t *testing.T) {
 		"line 2":         func(f *failed) { samples.Model(f, "ring sets;symbols 0") },
 		"no weight":      func(f *failed) { samples.Cases()[0].Weight(f, "inf") },
 		"no normal form": func(f *failed) { samples.Normal(f, api.Auto{}) },
+		"0 symbols, 0":   func(f *failed) { samples.Must(f, api.Auto{}, api.OK) },
+		"0 symbols, 4":   func(f *failed) { samples.Must(f, api.Auto{}, api.ErrForm) },
+		"in normal form": func(f *failed) {
+			a := samples.Sized(api.Ring{Kind: api.Sets}, 2, 2)
+			slices.Reverse(a.Arcs)
+			samples.Must(f, a, api.OK)
+		},
+		"what: ring 0, 0 symbols, 0, not 4": func(f *failed) { samples.Fail(f, "what", api.Auto{}, api.OK, api.ErrForm) },
+		"what: ring 4, 0 symbols, 4, not 4": func(f *failed) {
+			samples.Fail(f, "what", api.Auto{Ring: api.Ring{Kind: api.Sets}}, api.ErrForm, api.ErrForm)
+		},
+		"what is ring 0, 3 symbols, not ring 0, 0 symbols": func(f *failed) { samples.Expect(f, "what", api.Auto{Symbols: 3}, api.Auto{}) },
 	} {
 		f := &failed{}
 		try(f)

@@ -43,9 +43,14 @@ func (c Case) Random(t Test, choice func(n int) int, states, size int, empty boo
 // Shuffled returns an automaton with its arcs in another order, which a choice of numbers below n makes.
 func Shuffled(choice func(n int) int, a api.Auto) api.Auto {
 	a.Arcs = slices.Clone(a.Arcs)
-	for i := range a.Arcs {
-		k := choice(i + 1)
-		a.Arcs[i], a.Arcs[k] = a.Arcs[k], a.Arcs[i]
-	}
+	shuffle(choice, a.Arcs)
 	return a
+}
+
+// shuffle brings a list into another order.
+func shuffle[T any](choice func(n int) int, list []T) {
+	for i := range list {
+		k := choice(i + 1)
+		list[i], list[k] = list[k], list[i]
+	}
 }

@@ -6,6 +6,7 @@ import (
 	"slices"
 
 	"weighted/api"
+	"weighted/models"
 	"weighted/semiring"
 )
 
@@ -22,7 +23,7 @@ func newSearch(a api.Auto, word []int) search {
 	ones := counting(a)
 	ways := slices.Collect(stages(turned(ones, word)))
 	slices.Reverse(ways)
-	return search{a, word, ways, joined(ones.Ring, ones.Initial, ways[0]).Q}
+	return search{a, word, ways, models.Join(ones.Ring, ones.Initial, ways[0]).Q}
 }
 
 // counting returns the automaton over the rational numbers with 1 in place of each weight other than Zero, so that its sums are numbers of paths.

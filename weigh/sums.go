@@ -53,15 +53,6 @@ func zeros(r api.Ring, size int) []api.Weight {
 	return out
 }
 
-// joined returns the sum of the products of the elements of two lists.
-func joined(r api.Ring, v, w []api.Weight) api.Weight {
-	sum := semiring.Zero(r)
-	for i := range v {
-		sum = semiring.Plus(r, sum, semiring.Times(r, v[i], w[i]))
-	}
-	return sum
-}
-
 // turned returns the automaton whose paths run from the ends of those of a to their starts, and the word in reverse. The order of the factors of a weight does not matter, so that its forward weights are the backward weights of a.
 func turned(a api.Auto, word []int) (api.Auto, []int) {
 	a.Initial, a.Final = a.Final, a.Initial

@@ -1,0 +1,110 @@
+package samples_test
+
+import (
+	"fmt"
+	"math/rand"
+	"slices"
+	"strings"
+	"testing"
+
+	"weighted/api"
+	"weighted/samples"
+	"weighted/transducer"
+)
+
+const pairText = "ring product rational tropical;in 2;out 3;states 2;initial 0 1|2;final 1 2|3;arc 0 1 3 1 3|4;arc 1 2 0 0 1|inf"
+
+func TestTrans(t *testing.T) {
+	x := samples.Trans(t, pairText)
+	if got := samples.ShownTrans(x); got != "in 2, out 3: ring 6 1 2, 2 symbols; 0: 1|2, 0|inf; 1: 0|inf, 2|3; 0 1:3 1 3|4; 1 2:0 0 1|inf" {
+		t.Error(got)
+	}
+	if got := samples.ShownTrans(samples.Turned(x)); got != "in 3, out 2: ring 6 1 2, 2 symbols; 0: 1|2, 0|inf; 1: 0|inf, 2|3; 0 3:1 1 3|4; 1 0:2 0 1|inf" {
+		t.Error(got)
+	}
+	if !samples.SameTrans(x, samples.Turned(samples.Turned(x))) {
+		t.Error("turned twice")
+	}
+	a := samples.Model(t, "ring sets;symbols a b;states 1;arc 0 b 0 0000000000000001")
+	if got := samples.ShownTrans(samples.Copying(a)); got != "in 2, out 2: ring 4, 1 symbols; 0: 0000000000000000, 0000000000000000; 0 2:2 0 0000000000000001" {
+		t.Error(got)
+	}
+	if got := samples.ShownTrans(samples.Reading(a, 5)); got != "in 2, out 5: ring 4, 1 symbols; 0: 0000000000000000, 0000000000000000; 0 2:0 0 0000000000000001" {
+		t.Error(got)
+	}
+}
+
+func TestSameTrans(t *testing.T) {
+	x := samples.Trans(t, pairText)
+	if !samples.SameTrans(x, samples.Trans(t, pairText)) || !samples.SameTrans(api.Trans{}, api.Trans{Arcs: []api.TArc{}}) {
+		t.Error("equal transducers")
+	}
+	for _, change := range []func(x *api.Trans){
+		func(x *api.Trans) { x.Ring.Kind = 1 },
+		func(x *api.Trans) { x.In++ },
+		func(x *api.Trans) { x.Out++ },
+		func(x *api.Trans) { x.States++ },
+		func(x *api.Trans) { x.Initial = nil },
+		func(x *api.Trans) { x.Final = nil },
+		func(x *api.Trans) { x.Arcs = x.Arcs[:1] },
+		func(x *api.Trans) { x.Arcs[0].From = 1 },
+		func(x *api.Trans) { x.Arcs[0].In = 2 },
+		func(x *api.Trans) { x.Arcs[0].Out = 2 },
+		func(x *api.Trans) { x.Arcs[0].To = 0 },
+		func(x *api.Trans) { x.Arcs[0].Weight = x.Final[1] },
+	} {
+		y := samples.Trans(t, pairText)
+		change(&y)
+		if samples.SameTrans(x, y) || samples.SameTrans(y, x) {
+			t.Errorf("%s and %s", samples.ShownTrans(x), samples.ShownTrans(y))
+		}
+	}
+}
+
+func TestTransducersThatAreNotValid(t *testing.T) {
+	for _, c := range samples.Cases() {
+		for what, x := range c.InvalidTrans(t) {
+			if transducer.Valid(x) {
+				t.Errorf("%s: %s: %s is valid", c.Line, what, samples.ShownTrans(x))
+			}
+		}
+	}
+}
+
+func TestRandomTrans(t *testing.T) {
+	source := rand.New(rand.NewSource(3))
+	for _, c := range samples.Cases() {
+		seen := map[string]bool{}
+		for range 50 {
+			x := c.RandomTrans(t, source.Intn, 3, 30)
+			n, e := transducer.Normal(x)
+			if e != api.OK || transducer.Loops(x) || len(n.Arcs) < 5 {
+				t.Errorf("%s: %s", c.Line, samples.ShownTrans(x))
+			}
+			isSilent := func(x api.TArc) bool { return x.In == 0 && x.Out == 0 }
+			seen[fmt.Sprint(slices.ContainsFunc(n.Arcs, isSilent))] = true
+			seen[samples.ShownTrans(samples.ShuffledTrans(source.Intn, x))] = true
+		}
+		if len(seen) != 52 {
+			t.Errorf("%s: %d transducers", c.Line, len(seen))
+		}
+		if x := c.RandomTrans(t, source.Intn, 0, 0); x.States != 0 {
+			t.Errorf("%s: %s", c.Line, samples.ShownTrans(x))
+		}
+	}
+}
+
+func TestTextsOfTransducersThatAreWrong(t *testing.T) {
+	for text, want := range map[string]string{
+		"ring sets;in x;out 1;states 1":                     "no number: x",
+		"ring sets;in 1;out 1;states x":                     "line 3",
+		"ring sets;in 1;out 1;states 1;arc 0 0 0 0 1|2":     "no weight: 1|2",
+		"ring rational;in 1;out 1;states 1;arc 0 a 0 0 1/2": "no number: a",
+	} {
+		f := &failed{}
+		samples.Trans(f, text)
+		if !strings.Contains(f.message, want) {
+			t.Errorf("%s: %s", text, f.message)
+		}
+	}
+}

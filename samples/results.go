@@ -32,3 +32,20 @@ func Expect(t Test, what string, got, want api.Auto) {
 		t.Fatalf("%s is %s, not %s", what, Shown(got), Shown(want))
 	}
 }
+
+// Overwrite changes all memory that a weight refers to.
+func Overwrite(w *api.Weight) {
+	for _, limbs := range [][]uint32{w.Q.Num, w.Q.Den} {
+		for i := range limbs {
+			limbs[i] = 77
+		}
+	}
+	for i := range w.Poly {
+		w.Poly[i].Exps[0]++
+		Overwrite(&api.Weight{Q: w.Poly[i].Coef})
+	}
+	for i := range w.Parts {
+		Overwrite(&w.Parts[i])
+		w.Parts[i].Set++
+	}
+}

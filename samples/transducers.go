@@ -7,6 +7,7 @@ import (
 
 	"weighted/api"
 	"weighted/semiring"
+	"weighted/transducer"
 )
 
 // Trans reads a transducer. Its text is that of a model with two lines in place of that of the symbols, which tell how many there are: "in 2" and "out 3". An arc has two labels, which are numbers: "arc 0 1 2 3 1/2" leads from 0 with the labels 1 : 2 to 3.
@@ -160,4 +161,42 @@ func ShuffledTrans(choice func(n int) int, x api.Trans) api.Trans {
 	x.Arcs = slices.Clone(x.Arcs)
 	shuffle(choice, x.Arcs)
 	return x
+}
+
+// Pairs calls a function with all pairs of words up to a length that a transducer may have.
+func Pairs(t Test, x api.Trans, most int, check func(in, out []int)) {
+	t.Helper()
+	for _, in := range Words(t, x.In, most) {
+		for _, out := range Words(t, x.Out, most) {
+			check(in, out)
+		}
+	}
+}
+
+// NormalTrans returns the normal form of a transducer that is valid.
+func NormalTrans(t Test, x api.Trans) api.Trans {
+	t.Helper()
+	n, e := transducer.Normal(x)
+	if e != api.OK || !transducer.Valid(n) {
+		t.Fatalf("%s: no normal form: %v", ShownTrans(x), e)
+	}
+	return n
+}
+
+// PairWeight returns the weight that a transducer gives two words.
+func PairWeight(t Test, x api.Trans, in, out []int) api.Weight {
+	t.Helper()
+	w, e := transducer.Weight(x, in, out)
+	if e != api.OK || !semiring.Check(x.Ring, w) {
+		t.Fatalf("%s: no weight of %v : %v: %v", ShownTrans(x), in, out, e)
+	}
+	return w
+}
+
+// ExpectPair checks the weight that a transducer gives two words.
+func ExpectPair(t Test, what string, x api.Trans, in, out []int, want api.Weight) {
+	t.Helper()
+	if got := PairWeight(t, x, in, out); !semiring.Equal(got, want) {
+		t.Fatalf("%s: %v : %v has the weight %s, not %s: %s", what, in, out, semiring.Format(x.Ring, got), semiring.Format(x.Ring, want), ShownTrans(x))
+	}
 }

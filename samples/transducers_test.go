@@ -108,3 +108,31 @@ func TestTextsOfTransducersThatAreWrong(t *testing.T) {
 		}
 	}
 }
+
+func TestPairs(t *testing.T) {
+	x := samples.Trans(t, "ring rational;in 2;out 1;states 1;initial 0 1;final 0 1;arc 0 1 0 0 1/2;arc 0 2 1 0 1;arc 0 1 1 0 0")
+	seen := ""
+	samples.Pairs(t, x, 1, func(in, out []int) { seen += fmt.Sprint(in, out) })
+	if seen != "[] [][] [1][1] [][1] [1][2] [][2] [1]" {
+		t.Error(seen)
+	}
+	samples.ExpectPair(t, "a pair", x, []int{1, 2}, []int{1}, samples.NormalTrans(t, x).Arcs[0].Weight)
+	if w := samples.PairWeight(t, x, nil, nil); w.Q.Num[0] != 1 {
+		t.Error(w)
+	}
+}
+
+func TestOverwrite(t *testing.T) {
+	for _, c := range samples.Cases() {
+		for _, text := range c.Others {
+			w := c.Weight(t, text)
+			before := fmt.Sprint(w)
+			// A cost and a set are no memory that a weight refers to.
+			refers := len(w.Q.Num)+len(w.Poly)+len(w.Parts) > 0
+			samples.Overwrite(&w)
+			if (fmt.Sprint(w) != before) != refers {
+				t.Errorf("%s: %s became %v", c.Line, before, w)
+			}
+		}
+	}
+}

@@ -40,8 +40,8 @@ func TestWordsThatAreNotValid(t *testing.T) {
 			fail(t, c.Line, x, []int{1, 3}, []int{3}, api.ErrLabels)
 			fail(t, c.Line, samples.Turned(x), nil, []int{3}, api.ErrLabels)
 			fail(t, c.Line, samples.Turned(x), []int{3}, []int{1, 3, 1}, api.ErrLabels)
-			weight(t, x, []int{2}, []int{3})
-			weight(t, samples.Turned(x), []int{3}, []int{2})
+			samples.PairWeight(t, x, []int{2}, []int{3})
+			samples.PairWeight(t, samples.Turned(x), []int{3}, []int{2})
 		}
 	}
 }
@@ -51,11 +51,11 @@ func TestLongWords(t *testing.T) {
 	longer := slices.Repeat([]int{1}, api.MaxWord+1)
 	for _, c := range samples.Cases() {
 		x := samples.Trans(t, c.Fill("in 1;out 1;states 1;initial 0 one;final 0 w1;arc 0 1 1 0 one;arc 0 1 0 0 zero", 0))
-		expect(t, c.Line, x, longest, longest, x.Final[0])
-		expect(t, c.Line, x, longest, longest[1:], semiring.Zero(x.Ring))
-		expect(t, c.Line, x, longest[1:], longest, semiring.Zero(x.Ring))
-		expect(t, c.Line, x, longest, nil, semiring.Zero(x.Ring))
-		expect(t, c.Line, x, nil, longest, semiring.Zero(x.Ring))
+		samples.ExpectPair(t, c.Line, x, longest, longest, x.Final[0])
+		samples.ExpectPair(t, c.Line, x, longest, longest[1:], semiring.Zero(x.Ring))
+		samples.ExpectPair(t, c.Line, x, longest[1:], longest, semiring.Zero(x.Ring))
+		samples.ExpectPair(t, c.Line, x, longest, nil, semiring.Zero(x.Ring))
+		samples.ExpectPair(t, c.Line, x, nil, longest, semiring.Zero(x.Ring))
 		fail(t, c.Line, x, longer, longest, api.ErrLabels)
 		fail(t, c.Line, x, longest, longer, api.ErrLabels)
 		fail(t, c.Line, x, longer, longer, api.ErrLabels)
@@ -81,7 +81,7 @@ func TestErrorsInTheirOrder(t *testing.T) {
 				fail(t, c.Line+": "+closing, both, words[0], words[1], api.ErrForm)
 			}
 		}
-		weight(t, good, []int{1}, []int{3})
+		samples.PairWeight(t, good, []int{1}, []int{3})
 		fail(t, c.Line, good, []int{3}, []int{3}, api.ErrLabels)
 		fail(t, c.Line, good, []int{1}, []int{4}, api.ErrLabels)
 	}
@@ -90,9 +90,9 @@ func TestErrorsInTheirOrder(t *testing.T) {
 func TestCyclesThatVanish(t *testing.T) {
 	for _, c := range samples.Cases() {
 		x := samples.Trans(t, c.Fill("in 1;out 1;states 2;initial 0 one;final 1 w1;gone 0 0 0 0;gone 1 0 0 0;arc 0 0 0 1 one;arc 1 0 0 1 zero;arc 1 1 0 1 one", 0))
-		expect(t, c.Line, x, nil, nil, x.Final[1])
-		expect(t, c.Line, x, []int{1, 1}, nil, x.Final[1])
-		expect(t, c.Line, x, nil, []int{1}, semiring.Zero(x.Ring))
+		samples.ExpectPair(t, c.Line, x, nil, nil, x.Final[1])
+		samples.ExpectPair(t, c.Line, x, []int{1, 1}, nil, x.Final[1])
+		samples.ExpectPair(t, c.Line, x, nil, []int{1}, semiring.Zero(x.Ring))
 	}
 }
 
@@ -103,32 +103,15 @@ func TestResultsAreNewMemory(t *testing.T) {
 			x := samples.Trans(t, c.Fill("in 1;out 1;states 2;initial 0 one;final 1 one;arc 0 1 0 1 w0;arc 0 0 0 1 w0", i))
 			want := semiring.Format(x.Ring, x.Arcs[0].Weight)
 			for _, in := range [][]int{nil, {1}} {
-				w := weight(t, x, in, nil)
-				overwrite(&w)
+				w := samples.PairWeight(t, x, in, nil)
+				samples.Overwrite(&w)
 				expectText(t, c.Line, x, in, nil, want)
 			}
-			n := normal(t, x)
+			n := samples.NormalTrans(t, x)
 			for k := range n.Arcs {
-				overwrite(&n.Arcs[k].Weight)
+				samples.Overwrite(&n.Arcs[k].Weight)
 			}
 			expectText(t, c.Line, x, nil, nil, want)
 		}
-	}
-}
-
-// overwrite changes all that a weight refers to.
-func overwrite(w *api.Weight) {
-	for _, limbs := range [][]uint32{w.Q.Num, w.Q.Den} {
-		for i := range limbs {
-			limbs[i] = 77
-		}
-	}
-	for i := range w.Poly {
-		w.Poly[i].Exps[0]++
-		overwrite(&api.Weight{Q: w.Poly[i].Coef})
-	}
-	for i := range w.Parts {
-		overwrite(&w.Parts[i])
-		w.Parts[i].Set++
 	}
 }

@@ -9,43 +9,15 @@ import (
 	"weighted/transducer"
 )
 
-// normal returns the normal form of a transducer that is valid.
-func normal(t *testing.T, x api.Trans) api.Trans {
-	t.Helper()
-	n, e := transducer.Normal(x)
-	if e != api.OK || !transducer.Valid(n) {
-		t.Fatalf("%s: no normal form: %v", samples.ShownTrans(x), e)
-	}
-	return n
-}
-
 // expectNormal checks the normal form of a transducer.
 func expectNormal(t *testing.T, what string, x, want api.Trans) {
 	t.Helper()
-	got := normal(t, x)
+	got := samples.NormalTrans(t, x)
 	if !samples.SameTrans(got, want) {
 		t.Fatalf("%s: the normal form is %s, not %s", what, samples.ShownTrans(got), samples.ShownTrans(want))
 	}
-	if again := normal(t, got); !samples.SameTrans(again, want) {
+	if again := samples.NormalTrans(t, got); !samples.SameTrans(again, want) {
 		t.Fatalf("%s: the normal form of the normal form is %s", what, samples.ShownTrans(again))
-	}
-}
-
-// weight returns the weight that a transducer gives two words.
-func weight(t *testing.T, x api.Trans, in, out []int) api.Weight {
-	t.Helper()
-	w, e := transducer.Weight(x, in, out)
-	if e != api.OK || !semiring.Check(x.Ring, w) {
-		t.Fatalf("%s: no weight of %v : %v: %v", samples.ShownTrans(x), in, out, e)
-	}
-	return w
-}
-
-// expect checks the weight that a transducer gives two words.
-func expect(t *testing.T, what string, x api.Trans, in, out []int, want api.Weight) {
-	t.Helper()
-	if got := weight(t, x, in, out); !semiring.Equal(got, want) {
-		t.Fatalf("%s: %v : %v has the weight %s, not %s: %s", what, in, out, semiring.Format(x.Ring, got), semiring.Format(x.Ring, want), samples.ShownTrans(x))
 	}
 }
 
@@ -56,7 +28,7 @@ func expectText(t *testing.T, what string, x api.Trans, in, out []int, want stri
 	if !ok {
 		t.Fatalf("no weight: %s", want)
 	}
-	expect(t, what, x, in, out, w)
+	samples.ExpectPair(t, what, x, in, out, w)
 }
 
 // fail checks that Weight answers an error.
@@ -124,14 +96,4 @@ func behind(word []int, label int) ([]int, bool) {
 		return nil, false
 	}
 	return word[1:], true
-}
-
-// pairs calls a function with all pairs of words over so many symbols up to a length.
-func pairs(t *testing.T, x api.Trans, most int, check func(in, out []int)) {
-	t.Helper()
-	for _, in := range samples.Words(t, x.In, most) {
-		for _, out := range samples.Words(t, x.Out, most) {
-			check(in, out)
-		}
-	}
 }

@@ -74,7 +74,7 @@ func TestNormalOfRandomTransducers(t *testing.T) {
 			expectNormal(t, c.Line, x, want)
 			expectNormal(t, c.Line+", shuffled", samples.ShuffledTrans(source.Intn, x), want)
 			// The labels of both sides are treated alike.
-			turned := normal(t, samples.Turned(x))
+			turned := samples.NormalTrans(t, samples.Turned(x))
 			expectNormal(t, c.Line+", turned", samples.Turned(turned), want)
 		}
 	}

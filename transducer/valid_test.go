@@ -111,18 +111,18 @@ func TestJustValid(t *testing.T) {
 		expectNormal(t, c.Line, none, none)
 		fewest := api.Trans{Ring: r, In: 1, Out: 1}
 		expectNormal(t, c.Line, fewest, fewest)
-		expect(t, c.Line, none, []int{32}, []int{32}, semiring.Zero(r))
-		expect(t, c.Line, none, nil, nil, semiring.Zero(r))
+		samples.ExpectPair(t, c.Line, none, []int{32}, []int{32}, semiring.Zero(r))
+		samples.ExpectPair(t, c.Line, none, nil, nil, semiring.Zero(r))
 		x := sized(r, api.MaxStates, api.MaxArcs)
-		expectNormal(t, c.Line, x, normal(t, x))
-		if n := normal(t, x); len(n.Arcs) != api.MaxArcs || n.States != api.MaxStates || n.In != 32 || n.Out != 32 {
+		expectNormal(t, c.Line, x, samples.NormalTrans(t, x))
+		if n := samples.NormalTrans(t, x); len(n.Arcs) != api.MaxArcs || n.States != api.MaxStates || n.In != 32 || n.Out != 32 {
 			t.Fatalf("%s: %s", c.Line, samples.ShownTrans(n))
 		}
 		checkInvalid(t, c.Line+": too many states", sized(r, api.MaxStates+1, 0))
 		checkInvalid(t, c.Line+": too many arcs", sized(r, api.MaxStates, api.MaxArcs+1))
 		equal := x
 		equal.Arcs = slices.Repeat(x.Arcs[:1], api.MaxArcs)
-		if n := normal(t, equal); len(n.Arcs) != 1 {
+		if n := samples.NormalTrans(t, equal); len(n.Arcs) != 1 {
 			t.Fatalf("%s: %s", c.Line, samples.ShownTrans(n))
 		}
 		equal.Arcs = slices.Repeat(x.Arcs[:1], api.MaxArcs+1)

@@ -133,9 +133,9 @@ func TestWeightIsTheSumOverAllPaths(t *testing.T) {
 		for range 25 {
 			x := c.RandomTrans(t, source.Intn, 1+source.Intn(4), source.Intn(26))
 			n := merge(x)
-			pairs(t, x, 2, func(in, out []int) {
+			samples.Pairs(t, x, 2, func(in, out []int) {
 				want, count := tried(n, in, out)
-				expect(t, c.Line, x, in, out, want)
+				samples.ExpectPair(t, c.Line, x, in, out, want)
 				several += min(count/2, 1)
 				empty += min(count, 1) * (1 - min(len(in)+len(out), 1))
 			})
@@ -160,7 +160,7 @@ func TestWeightOfLongerWords(t *testing.T) {
 			x := c.RandomTrans(t, source.Intn, 1+source.Intn(3), 6+source.Intn(8))
 			in, out := word(x.In), word(x.Out)
 			want, _ := tried(merge(x), in, out)
-			expect(t, c.Line, x, in, out, want)
+			samples.ExpectPair(t, c.Line, x, in, out, want)
 		}
 	}
 }
@@ -170,11 +170,11 @@ func TestWeightDoesNotDependOnTheOrderOfArcs(t *testing.T) {
 	for _, c := range samples.Cases() {
 		for range 5 {
 			x := c.RandomTrans(t, source.Intn, 3, 25)
-			pairs(t, x, 2, func(in, out []int) {
-				want := weight(t, x, in, out)
-				expect(t, c.Line+", shuffled", samples.ShuffledTrans(source.Intn, x), in, out, want)
-				expect(t, c.Line+", normal form", normal(t, x), in, out, want)
-				expect(t, c.Line+", turned", samples.Turned(x), out, in, want)
+			samples.Pairs(t, x, 2, func(in, out []int) {
+				want := samples.PairWeight(t, x, in, out)
+				samples.ExpectPair(t, c.Line+", shuffled", samples.ShuffledTrans(source.Intn, x), in, out, want)
+				samples.ExpectPair(t, c.Line+", normal form", samples.NormalTrans(t, x), in, out, want)
+				samples.ExpectPair(t, c.Line+", turned", samples.Turned(x), out, in, want)
 			})
 		}
 	}
@@ -195,15 +195,15 @@ func TestWeightsOfAutomata(t *testing.T) {
 			}
 			zero := semiring.Zero(a.Ring)
 			reading, copying := samples.Reading(a, 7), samples.Copying(a)
-			expect(t, c.Line+", reading", reading, word, nil, want)
-			expect(t, c.Line+", reading", reading, word, []int{7}, zero)
-			expect(t, c.Line+", writing", samples.Turned(reading), nil, word, want)
-			expect(t, c.Line+", writing", samples.Turned(reading), []int{7}, word, zero)
-			expect(t, c.Line+", copying", copying, word, word, want)
+			samples.ExpectPair(t, c.Line+", reading", reading, word, nil, want)
+			samples.ExpectPair(t, c.Line+", reading", reading, word, []int{7}, zero)
+			samples.ExpectPair(t, c.Line+", writing", samples.Turned(reading), nil, word, want)
+			samples.ExpectPair(t, c.Line+", writing", samples.Turned(reading), []int{7}, word, zero)
+			samples.ExpectPair(t, c.Line+", copying", copying, word, word, want)
 			if len(word) > 0 {
-				expect(t, c.Line+", copying", copying, word, word[1:], zero)
-				expect(t, c.Line+", copying", copying, word[1:], word, zero)
-				expect(t, c.Line+", copying", copying, nil, word, zero)
+				samples.ExpectPair(t, c.Line+", copying", copying, word, word[1:], zero)
+				samples.ExpectPair(t, c.Line+", copying", copying, word[1:], word, zero)
+				samples.ExpectPair(t, c.Line+", copying", copying, nil, word, zero)
 			}
 		}
 	}
@@ -222,15 +222,15 @@ func TestChainsOfEmptyLabels(t *testing.T) {
 			for _, y := range x.Arcs {
 				want = semiring.Times(x.Ring, want, y.Weight)
 			}
-			expect(t, c.Line, x, nil, nil, want)
-			expect(t, c.Line, x, []int{1}, nil, semiring.Zero(x.Ring))
+			samples.ExpectPair(t, c.Line, x, nil, nil, want)
+			samples.ExpectPair(t, c.Line, x, []int{1}, nil, semiring.Zero(x.Ring))
 			// With an arc back, the chain stands before, between and behind the symbols.
 			for _, y := range []api.TArc{{In: 1}, {Out: 1}, {In: 1, Out: 1}} {
 				y.From, y.To, y.Weight = last, first, one
 				back := x
 				back.Arcs = append(slices.Clone(x.Arcs), y)
 				in, out := slices.Repeat([]int{1}, 2*y.In), slices.Repeat([]int{1}, 2*y.Out)
-				expect(t, c.Line, back, in, out, semiring.Times(x.Ring, want, semiring.Times(x.Ring, want, want)))
+				samples.ExpectPair(t, c.Line, back, in, out, semiring.Times(x.Ring, want, semiring.Times(x.Ring, want, want)))
 			}
 		}
 	}
@@ -267,7 +267,7 @@ func TestAllSymbols(t *testing.T) {
 				if in+out == 32 {
 					want = one
 				}
-				expect(t, c.Line, x, []int{in}, slices.Repeat([]int{out}, min(out, 1)), want)
+				samples.ExpectPair(t, c.Line, x, []int{in}, slices.Repeat([]int{out}, min(out, 1)), want)
 			}
 		}
 	}
@@ -289,8 +289,8 @@ func TestManyStatesAndArcs(t *testing.T) {
 		}
 		// There are two states from which the output begins with 1, and both follow the same way.
 		want := semiring.Plus(x.Ring, semiring.One(x.Ring), semiring.One(x.Ring))
-		expect(t, c.Line, x, in, out, want)
+		samples.ExpectPair(t, c.Line, x, in, out, want)
 		out[39] = 1 + out[39]%32
-		expect(t, c.Line, x, in, out, semiring.Zero(x.Ring))
+		samples.ExpectPair(t, c.Line, x, in, out, semiring.Zero(x.Ring))
 	}
 }

@@ -123,16 +123,7 @@ func TestResultsAreNewMemory(t *testing.T) {
 				before := samples.ShownTrans(z[0]) + samples.ShownTrans(z[1])
 				out := composed(t, z[0], z[1])
 				want := samples.ShownTrans(out)
-				for i := range out.Ring.Parts {
-					out.Ring.Parts[i] = 77
-				}
-				for i := range out.States {
-					samples.Overwrite(&out.Initial[i])
-					samples.Overwrite(&out.Final[i])
-				}
-				for i := range out.Arcs {
-					samples.Overwrite(&out.Arcs[i].Weight)
-				}
+				samples.OverwriteTrans(out)
 				if after := samples.ShownTrans(z[0]) + samples.ShownTrans(z[1]); after != before {
 					t.Fatalf("%s: %s became %s", c.Line, before, after)
 				}

@@ -16,9 +16,7 @@ func composed(t *testing.T, x, y api.Trans) api.Trans {
 	if e != api.OK {
 		t.Fatalf("%v: %s and %s", e, samples.ShownTrans(x), samples.ShownTrans(y))
 	}
-	if n := samples.NormalTrans(t, out); !samples.SameTrans(out, n) {
-		t.Fatalf("not in normal form: %s", samples.ShownTrans(out))
-	}
+	samples.MustTrans(t, out, e)
 	if !semiring.Same(out.Ring, x.Ring) || out.In != x.In || out.Out != y.Out {
 		t.Fatalf("%s is no composition of %s and %s", samples.ShownTrans(out), samples.ShownTrans(x), samples.ShownTrans(y))
 	}
@@ -37,7 +35,5 @@ func expect(t *testing.T, what string, x, y, want api.Trans) {
 func fail(t *testing.T, what string, x, y api.Trans, want api.Errno) {
 	t.Helper()
 	out, e := compose.Compose(x, y)
-	if e != want || !samples.SameTrans(out, api.Trans{}) {
-		t.Fatalf("%s: %v, %s, not %v", what, e, samples.ShownTrans(out), want)
-	}
+	samples.FailTrans(t, what, out, e, want)
 }

@@ -47,18 +47,6 @@ func TestLargerRandomCompositions(t *testing.T) {
 	}
 }
 
-// cancelling returns lines of rings with weights of which sums are Zero.
-func cancelling() []samples.Case {
-	return []samples.Case{
-		{Line: "ring rational", Zero: "0", One: "1", Others: []string{"1", "-1"}},
-		{Line: "ring rational", Zero: "0", One: "1", Others: []string{"1/2", "-1/2", "1/2", "-1"}},
-		{Line: "ring polynomial", Zero: "0", One: "1", Others: []string{"1", "-1", "a^2", "-a^2"}},
-		{Line: "ring product rational tropical", Zero: "0|inf", One: "1|0", Others: []string{"1|inf", "-1|inf"}},
-		{Line: "ring product rational rational", Zero: "0|0", One: "1|1", Others: []string{"1|1", "-1|-1", "1|0", "0|-1", "-1|1"}},
-		{Line: "ring product viterbi sets polynomial", Zero: "0|0000000000000000|0", One: "1|ffffffffffffffff|1", Others: []string{"0|0000000000000000|1", "0|0000000000000000|-1"}},
-	}
-}
-
 // cancellingTrans returns a transducer in normal form over one and two symbols, in which two arcs with different labels Out lead from most states to few others.
 func cancellingTrans(t *testing.T, c samples.Case, choice func(int) int) api.Trans {
 	t.Helper()
@@ -85,7 +73,7 @@ func cancellingTrans(t *testing.T, c samples.Case, choice func(int) int) api.Tra
 
 func TestSumsThatAreZero(t *testing.T) {
 	source := rand.New(rand.NewSource(3))
-	for _, c := range cancelling() {
+	for _, c := range samples.Cancelling() {
 		one := func() api.Trans { return cancellingTrans(t, c, source.Intn) }
 		lost, less, other := 0, 0, 0
 		for range 80 {

@@ -6,6 +6,7 @@ import (
 	"slices"
 
 	"weighted/api"
+	"weighted/models"
 	"weighted/semiring"
 )
 
@@ -20,7 +21,7 @@ type composition struct {
 // newComposition returns the composition of two transducers in normal form.
 func newComposition(m, n api.Trans) *composition {
 	r := m.Ring
-	return &composition{ring: r, zero: semiring.Zero(r), m: m, n: n, first: newSide(r, m.States, m.Arcs), second: newSide(r, n.States, turned(n.Arcs))}
+	return &composition{ring: r, zero: semiring.Zero(r), m: m, n: n, first: newSide(r, m.States, m.Arcs), second: newSide(r, n.States, models.Turned(n.Arcs))}
 }
 
 // isZero reports whether a weight is Zero.

@@ -75,12 +75,3 @@ func split[T any](list []T, alike func(x, y T) bool) [][]T {
 	}
 	return out
 }
-
-// turned returns arcs that read what others write, and write what these read.
-func turned(arcs []api.TArc) []api.TArc {
-	out := slices.Clone(arcs)
-	for i, x := range arcs {
-		out[i].In, out[i].Out = x.Out, x.In
-	}
-	return out
-}

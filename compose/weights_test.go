@@ -3,7 +3,6 @@ package compose_test
 import (
 	"math/rand"
 	"slices"
-	"strconv"
 	"testing"
 
 	"weighted/api"
@@ -44,73 +43,13 @@ func TestOnePathForManyEmptyLabels(t *testing.T) {
 	}
 }
 
-// upward returns a random transducer over one or two symbols, whose arcs with an empty label on one side or on both lead to greater states only, so that they form no cycle.
-func upward(t *testing.T, c samples.Case, choice func(int) int, in, out, states int, weights []string) api.Trans {
-	t.Helper()
-	text := "in " + strconv.Itoa(in) + ";out " + strconv.Itoa(out) + ";states " + strconv.Itoa(states)
-	for i := range states {
-		if choice(3) > 0 || i == 0 {
-			text += ";initial " + strconv.Itoa(i) + " " + weights[choice(len(weights))]
-		}
-		if choice(3) > 0 || i == states-1 {
-			text += ";final " + strconv.Itoa(i) + " " + weights[choice(len(weights))]
-		}
-	}
-	for range 2*states + choice(4*states) {
-		from, to, x, y := choice(states), choice(states), choice(2)*(1+choice(in)), choice(2)*(1+choice(out))
-		if from >= to {
-			x, y = max(x, 1), max(y, 1)
-		}
-		text += ";arc " + strconv.Itoa(from) + " " + strconv.Itoa(x) + " " + strconv.Itoa(y) + " " + strconv.Itoa(to) + " " + weights[choice(len(weights))]
-	}
-	return samples.Trans(t, c.Fill(text, 0))
-}
-
-// outputs returns the words that paths of a transducer write when they read a word, wherever they begin and end.
-func outputs(x api.Trans, in []int) [][]int {
-	seen := map[string]bool{}
-	var out [][]int
-	var follow func(state int, in, written []int)
-	follow = func(state int, in, written []int) {
-		if len(in) == 0 {
-			key := ""
-			for _, label := range written {
-				key += strconv.Itoa(label) + " "
-			}
-			if !seen[key] {
-				seen[key] = true
-				out = append(out, slices.Clone(written))
-			}
-		}
-		for _, y := range x.Arcs {
-			if y.From != state {
-				continue
-			}
-			next := slices.Clone(written)
-			if y.Out > 0 {
-				next = append(next, y.Out)
-			}
-			switch {
-			case y.In == 0:
-				follow(y.To, in, next)
-			case len(in) > 0 && in[0] == y.In:
-				follow(y.To, in[1:], next)
-			}
-		}
-	}
-	for state := range x.States {
-		follow(state, in, nil)
-	}
-	return out
-}
-
 // expectSums checks that a composition gives pairs of words the sums over the words in the middle, and returns how many of these sums have several terms that are not Zero.
 func expectSums(t *testing.T, what string, x, y api.Trans, most int) int {
 	t.Helper()
 	out, several := composed(t, x, y), 0
 	zero := semiring.Zero(x.Ring)
 	for _, in := range samples.Words(t, x.In, most) {
-		middle := outputs(x, in)
+		middle := samples.Outputs(x, in)
 		for _, last := range samples.Words(t, y.Out, most) {
 			sum, terms := zero, 0
 			for _, word := range middle {
@@ -133,8 +72,8 @@ func TestSumsOverTheWordsInTheMiddle(t *testing.T) {
 		for range 25 {
 			in, middle, out := 1+source.Intn(2), 1+source.Intn(2), 1+source.Intn(2)
 			weights := []string{"one", "w0", "w1", "w2"}
-			x := upward(t, c, source.Intn, in, middle, 2+source.Intn(2), weights)
-			y := upward(t, c, source.Intn, middle, out, 2+source.Intn(2), weights)
+			x := c.Upward(t, source.Intn, in, middle, 2+source.Intn(2), weights)
+			y := c.Upward(t, source.Intn, middle, out, 2+source.Intn(2), weights)
 			several += expectSums(t, c.Line, x, y, 2)
 		}
 		if several < 20 {
@@ -148,8 +87,8 @@ func TestNumbersOfPaths(t *testing.T) {
 	source := rand.New(rand.NewSource(6))
 	c, several := samples.Cases()[0], 0
 	for range 100 {
-		x := upward(t, c, source.Intn, 1, 1, 1+source.Intn(4), []string{"one"})
-		y := upward(t, c, source.Intn, 1, 1, 1+source.Intn(4), []string{"one"})
+		x := c.Upward(t, source.Intn, 1, 1, 1+source.Intn(4), []string{"one"})
+		y := c.Upward(t, source.Intn, 1, 1, 1+source.Intn(4), []string{"one"})
 		several += expectSums(t, "paths", x, y, 3)
 	}
 	if several < 200 {
@@ -180,9 +119,9 @@ func TestThreeTransducers(t *testing.T) {
 		others := 0
 		for range 20 {
 			weights := []string{"one", "w0", "w1", "w2"}
-			x := upward(t, c, source.Intn, 1, 2, 1+source.Intn(2), weights)
-			y := upward(t, c, source.Intn, 2, 1, 1+source.Intn(2), weights)
-			z := upward(t, c, source.Intn, 1, 2, 1+source.Intn(2), weights)
+			x := c.Upward(t, source.Intn, 1, 2, 1+source.Intn(2), weights)
+			y := c.Upward(t, source.Intn, 2, 1, 1+source.Intn(2), weights)
+			z := c.Upward(t, source.Intn, 1, 2, 1+source.Intn(2), weights)
 			left, right := composed(t, composed(t, x, y), z), composed(t, x, composed(t, y, z))
 			samples.Pairs(t, left, 2, func(in, out []int) {
 				w := samples.PairWeight(t, left, in, out)
@@ -216,7 +155,7 @@ func TestCompositionWithCopying(t *testing.T) {
 	source := rand.New(rand.NewSource(8))
 	for _, c := range samples.Cases() {
 		for range 20 {
-			x := upward(t, c, source.Intn, 2, 1, 1+source.Intn(4), []string{"one", "w0", "w1", "w2"})
+			x := c.Upward(t, source.Intn, 2, 1, 1+source.Intn(4), []string{"one", "w0", "w1", "w2"})
 			before, behind := composed(t, copying(x.Ring, 2), x), composed(t, x, copying(x.Ring, 1))
 			samples.Pairs(t, x, 3, func(in, out []int) {
 				w := samples.PairWeight(t, x, in, out)

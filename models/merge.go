@@ -51,3 +51,12 @@ func Join(r api.Ring, v, w []api.Weight) api.Weight {
 	}
 	return sum
 }
+
+// Turned returns arcs that read what others write, and write what these read. Their weights stay in the memory of the others.
+func Turned(arcs []api.TArc) []api.TArc {
+	out := slices.Clone(arcs)
+	for i, x := range arcs {
+		out[i].In, out[i].Out = x.Out, x.In
+	}
+	return out
+}

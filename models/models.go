@@ -1,4 +1,4 @@
-// Package models contains what automata and transducers have in common: tests of their parts, copies in new memory, and the arcs of a normal form. It is no layer.
+// Package models contains what automata and transducers have in common: tests of their parts, copies in new memory, the arcs of a normal form, and arcs whose labels are exchanged. It is no layer.
 package models
 
 import (

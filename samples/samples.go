@@ -52,6 +52,18 @@ func Lines() []string {
 	return lines
 }
 
+// Cancelling returns lines of rings with weights of which sums are Zero.
+func Cancelling() []Case {
+	return []Case{
+		{Line: "ring rational", Zero: "0", One: "1", Others: []string{"1", "-1"}},
+		{Line: "ring rational", Zero: "0", One: "1", Others: []string{"1/2", "-1/2", "1/2", "-1"}},
+		{Line: "ring polynomial", Zero: "0", One: "1", Others: []string{"1", "-1", "a^2", "-a^2"}},
+		{Line: "ring product rational tropical", Zero: "0|inf", One: "1|0", Others: []string{"1|inf", "-1|inf"}},
+		{Line: "ring product rational rational", Zero: "0|0", One: "1|1", Others: []string{"1|1", "-1|-1", "1|0", "0|-1", "-1|1"}},
+		{Line: "ring product viterbi sets polynomial", Zero: "0|0000000000000000|0", One: "1|ffffffffffffffff|1", Others: []string{"0|0000000000000000|1", "0|0000000000000000|-1"}},
+	}
+}
+
 // Fill returns the text of a model from that of a template, in which zero and one stand for Zero and One, s0, s1, .. for small weights, x0, x1, .. for wide and w0, w1, .. for other ones, those with the numbers shift, shift + 1, .. and so on in turn. A line "gone 0 a 1" stands for arcs that the normal form leaves out.
 func (c Case) Fill(template string, shift int) string {
 	lines := []string{c.Line}

@@ -37,6 +37,29 @@ func TestCases(t *testing.T) {
 	}
 }
 
+func TestCancelling(t *testing.T) {
+	for _, c := range samples.Cancelling() {
+		r := c.Ring(t)
+		zero, gone := semiring.Zero(r), 0
+		if !semiring.Equal(c.Weight(t, c.Zero), zero) || !semiring.Equal(c.Weight(t, c.One), semiring.One(r)) {
+			t.Errorf("%s: %s and %s", c.Line, c.Zero, c.One)
+		}
+		for _, v := range c.Others {
+			for _, w := range c.Others {
+				if semiring.Equal(c.Weight(t, v), zero) {
+					t.Errorf("%s: %s is Zero", c.Line, v)
+				}
+				if semiring.Equal(semiring.Plus(r, c.Weight(t, v), c.Weight(t, w)), zero) {
+					gone++
+				}
+			}
+		}
+		if gone == 0 {
+			t.Errorf("%s: no sum is Zero", c.Line)
+		}
+	}
+}
+
 func TestLines(t *testing.T) {
 	lines := samples.Lines()
 	for i, line := range lines {

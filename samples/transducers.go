@@ -129,6 +129,15 @@ func (c Case) InvalidTrans(t Test) map[string]api.Trans {
 	return out
 }
 
+// SizedTrans returns a transducer over MaxSymbols symbols on both sides with so many states and arcs, all of whose weights are One, and no two of whose arcs have the same ends and label In.
+func SizedTrans(r api.Ring, states, arcs int) api.Trans {
+	x := Reading(Sized(r, states, arcs), api.MaxSymbols)
+	for i := range x.Arcs {
+		x.Arcs[i].Out = api.MaxSymbols - i%3
+	}
+	return x
+}
+
 // RandomTrans returns a transducer over two and three symbols with so many states and arcs that a choice of numbers below n makes, some of them with the weight Zero, or with the same ends and labels as others. Arcs with two empty labels lead to states with greater numbers only, but for those that have the sum Zero.
 func (c Case) RandomTrans(t Test, choice func(n int) int, states, size int) api.Trans {
 	t.Helper()

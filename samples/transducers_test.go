@@ -94,6 +94,56 @@ func TestRandomTrans(t *testing.T) {
 	}
 }
 
+func TestSizedTrans(t *testing.T) {
+	x := samples.SizedTrans(api.Ring{Kind: api.Sets}, 8, api.MaxArcs)
+	n := samples.NormalTrans(t, x)
+	if len(n.Arcs) != api.MaxArcs || n.States != 8 || n.In != api.MaxSymbols || n.Out != api.MaxSymbols {
+		t.Error(samples.ShownTrans(n))
+	}
+}
+
+func TestUpward(t *testing.T) {
+	source := rand.New(rand.NewSource(5))
+	for _, c := range samples.Cases() {
+		seen := map[string]bool{}
+		for range 50 {
+			x := c.Upward(t, source.Intn, 1, 2, 4, []string{"one", "w0", "w1"})
+			if x.In != 1 || x.Out != 2 || x.States != 4 || !transducer.Valid(x) {
+				t.Errorf("%s: %s", c.Line, samples.ShownTrans(x))
+			}
+			for _, y := range x.Arcs {
+				seen[fmt.Sprint(y.In == 0, y.Out == 0)] = true
+				if y.In*y.Out == 0 && y.From >= y.To {
+					t.Errorf("%s: %s", c.Line, samples.ShownTrans(x))
+				}
+			}
+		}
+		if len(seen) != 4 {
+			t.Errorf("%s: %v", c.Line, seen)
+		}
+	}
+}
+
+func TestOutputs(t *testing.T) {
+	x := samples.Trans(t, "ring rational;in 2;out 3;states 3;arc 0 1 2 1 1;arc 1 0 3 2 1;arc 2 1 0 0 1;arc 0 2 1 0 0")
+	for _, v := range []struct {
+		word []int
+		want string
+	}{
+		{nil, "[[] [3]]"},
+		{[]int{1}, "[[2] [2 3] [3] []]"},
+		{[]int{2}, "[[1]]"},
+		{[]int{2, 1}, "[[1 2] [1 2 3]]"},
+		{[]int{2, 1, 1}, "[[1 2 3]]"},
+		{[]int{1, 1, 2}, "[[2 3 1]]"},
+		{[]int{3}, "[]"},
+	} {
+		if got := fmt.Sprint(samples.Outputs(x, v.word)); got != v.want {
+			t.Errorf("%v: %s, not %s", v.word, got, v.want)
+		}
+	}
+}
+
 func TestTextsOfTransducersThatAreWrong(t *testing.T) {
 	for text, want := range map[string]string{
 		"ring sets;in x;out 1;states 1":                     "no number: x",

@@ -11,15 +11,6 @@ import (
 	"weighted/transducer"
 )
 
-// sized returns a transducer over MaxSymbols symbols on both sides with so many states and arcs, all of whose weights are One, and no two of whose arcs have the same ends and labels.
-func sized(r api.Ring, states, arcs int) api.Trans {
-	x := samples.Reading(samples.Sized(r, states, arcs), api.MaxSymbols)
-	for i := range x.Arcs {
-		x.Arcs[i].Out = api.MaxSymbols - i%3
-	}
-	return x
-}
-
 // checkInvalid checks what all functions answer for a transducer that is not valid.
 func checkInvalid(t *testing.T, what string, x api.Trans) {
 	t.Helper()
@@ -113,13 +104,13 @@ func TestJustValid(t *testing.T) {
 		expectNormal(t, c.Line, fewest, fewest)
 		samples.ExpectPair(t, c.Line, none, []int{32}, []int{32}, semiring.Zero(r))
 		samples.ExpectPair(t, c.Line, none, nil, nil, semiring.Zero(r))
-		x := sized(r, api.MaxStates, api.MaxArcs)
+		x := samples.SizedTrans(r, api.MaxStates, api.MaxArcs)
 		expectNormal(t, c.Line, x, samples.NormalTrans(t, x))
 		if n := samples.NormalTrans(t, x); len(n.Arcs) != api.MaxArcs || n.States != api.MaxStates || n.In != 32 || n.Out != 32 {
 			t.Fatalf("%s: %s", c.Line, samples.ShownTrans(n))
 		}
-		checkInvalid(t, c.Line+": too many states", sized(r, api.MaxStates+1, 0))
-		checkInvalid(t, c.Line+": too many arcs", sized(r, api.MaxStates, api.MaxArcs+1))
+		checkInvalid(t, c.Line+": too many states", samples.SizedTrans(r, api.MaxStates+1, 0))
+		checkInvalid(t, c.Line+": too many arcs", samples.SizedTrans(r, api.MaxStates, api.MaxArcs+1))
 		equal := x
 		equal.Arcs = slices.Repeat(x.Arcs[:1], api.MaxArcs)
 		if n := samples.NormalTrans(t, equal); len(n.Arcs) != 1 {

@@ -276,7 +276,7 @@ func TestAllSymbols(t *testing.T) {
 func TestManyStatesAndArcs(t *testing.T) {
 	source := rand.New(rand.NewSource(11))
 	for _, c := range samples.Cases() {
-		x := sized(c.Ring(t), api.MaxStates, api.MaxArcs)
+		x := samples.SizedTrans(c.Ring(t), api.MaxStates, api.MaxArcs)
 		for i := range x.Arcs {
 			// The number of the state grows with the length of the output, and its parity tells that of the input.
 			x.Arcs[i] = api.TArc{From: i % 64, In: i / 64, Out: 1 + i%32, To: (i%64 + i/64) % 64, Weight: x.Arcs[i].Weight}
